@@ -1,0 +1,1 @@
+"""Lateclasses: a machine that loads classes as late as possible."""

@@ -1,0 +1,39 @@
+"""Names, types and the other plain values that the rest of the package is made of.
+
+The kind of an object is asked by type(x), not by isinstance: a bool is no integer
+here, and an object that only poses as a text must not be taken for one.
+"""
+
+TOP = ("", "top")
+
+MOST_LETTERS = 8
+ARRAY_SIGN = "[]"
+
+
+def is_name(value):
+    """Tell whether any object is a name: one to eight letters from a to z."""
+    if type(value) != str or not 1 <= len(value) <= MOST_LETTERS:
+        return False
+    return all(["a" <= letter <= "z" for letter in value])
+
+
+def is_type(value):
+    """Tell whether any object is a name, or a name followed by []."""
+    return type(value) == str and is_name(value.removesuffix(ARRAY_SIGN))
+
+
+def element_of(value):
+    """Return the name of the elements of an array type, None for a name."""
+    if value.endswith(ARRAY_SIGN):
+        return value.removesuffix(ARRAY_SIGN)
+    return None
+
+
+def is_number(value, low, high):
+    """Tell whether any object is an integer from low to high."""
+    return type(value) == int and low <= value <= high
+
+
+def is_series(value, most):
+    """Tell whether any object is a list or tuple of at most so many items."""
+    return type(value) in (list, tuple) and len(value) <= most

@@ -1,0 +1,116 @@
+"""The form of the code: what of the rules for it can be seen without running it."""
+
+import ast
+import pathlib
+import re
+import unittest
+
+PACKAGE = pathlib.Path(__file__).resolve().parent.parent / "lateclasses"
+
+# The classes and functions that the document lists, by file, and the methods and properties of the classes.
+INTERFACE = {
+    "errors": {"ClassError": (), "InvalidName": (), "InvalidMethod": (), "InvalidClass": (), "InvalidTable": (),
+               "NameTaken": (), "UnknownLoader": (), "UnknownClass": (), "NameFixed": (), "LimitExceeded": (),
+               "Failing": (), "ParseError": (), "InvalidValues": (), "InvalidChoices": (), "InvalidLimit": (),
+               "InvalidOperand": (), "InvalidJournal": (), "InvalidCommand": (), "UnknownName": (), "NotLoaded": ()},
+    "words": {"is_name": None, "is_type": None, "element_of": None},
+    "codes": {"is_instruction": None, "Method": ("name", "params", "result", "size", "code")},
+    "classes": {"ClassText": ("name", "above", "marks", "fields", "methods", "field", "method")},
+}
+BARRED = {"register", "mro", "elements", "open", "input", "law", "version_info", "with_traceback", "add_note"}
+LIBRARY = {"heapq", "math", "itertools", "collections"}
+
+
+def sources():
+    return {path.stem: path.read_text(encoding="utf-8") for path in sorted(PACKAGE.glob("*.py"))}
+
+
+def trees():
+    return {name: ast.parse(text) for name, text in sources().items()}
+
+
+def names_in(tree):
+    """All names, attributes, parameters and definitions in a tree."""
+    for node in ast.walk(tree):
+        for field in ("id", "attr", "arg", "name"):
+            if isinstance(getattr(node, field, None), str):
+                yield getattr(node, field)
+
+
+class TestFiles(unittest.TestCase):
+    def test_only_plain_files(self):
+        for path in PACKAGE.iterdir():
+            if path.name != "__pycache__":
+                self.assertRegex(path.name, r"^(__init__|__main__|[a-z][a-z0-9_]*)\.py$")
+
+    def test_lengths(self):
+        for name, text in sources().items():
+            lines = text.split("\n")
+            self.assertLessEqual(len(lines), 400, name)
+            self.assertLessEqual(max(map(len, lines)), 120, name)
+
+    def test_characters(self):
+        for name, text in sources().items():
+            self.assertRegex(text, r"\A[ -~\n]*\Z", name)
+
+    def test_lengths_of_functions(self):
+        for name, tree in trees().items():
+            for node in ast.walk(tree):
+                if isinstance(node, ast.FunctionDef):
+                    self.assertLessEqual(node.end_lineno - node.lineno + 1, 40, (name, node.name))
+
+
+class TestModules(unittest.TestCase):
+    def test_what_stands_at_module_level(self):
+        allowed = (ast.ImportFrom, ast.FunctionDef, ast.ClassDef, ast.Assign)
+        for name, tree in trees().items():
+            self.assertTrue(ast.get_docstring(tree), name)
+            for node in tree.body[1:]:
+                if not (name == "__main__" and isinstance(node, (ast.Import, ast.If))):
+                    self.assertIsInstance(node, allowed, name)
+
+    def test_imports(self):
+        stems = set(sources())
+        for name, tree in trees().items():
+            for node in ast.walk(tree):
+                if isinstance(node, ast.Import):
+                    self.assertEqual((name, [alias.name for alias in node.names]), ("__main__", ["sys"]))
+                elif isinstance(node, ast.ImportFrom) and node.module not in LIBRARY | {"__future__"}:
+                    package, _, stem = node.module.partition(".")
+                    self.assertEqual((package, node.level), ("lateclasses", 0), name)
+                    self.assertIn(stem, stems, name)
+
+    def test_each_import_names_the_file_that_defines_it(self):
+        defined = {name: {node.name for node in tree.body if isinstance(node, (ast.FunctionDef, ast.ClassDef))}
+                   | {node.targets[0].id for node in tree.body if isinstance(node, ast.Assign)}
+                   for name, tree in trees().items()}
+        for name, tree in trees().items():
+            for node in tree.body:
+                if isinstance(node, ast.ImportFrom) and node.module.startswith("lateclasses."):
+                    for alias in node.names:
+                        self.assertIn(alias.name, defined[node.module.partition(".")[2]], name)
+
+    def test_barred_names(self):
+        for name, tree in trees().items():
+            self.assertFalse(BARRED & set(names_in(tree)), name)
+
+    def test_words_about_types(self):
+        for name, text in sources().items():
+            self.assertIsNone(re.search(r"\(type\)|Meta|metaclass=|_wall", text), name)
+
+
+class TestInterface(unittest.TestCase):
+    def test_each_name_is_defined_in_its_file(self):
+        for name, listed in INTERFACE.items():
+            found = {node.name: node for node in trees()[name].body
+                     if isinstance(node, (ast.FunctionDef, ast.ClassDef))}
+            for word, members in listed.items():
+                kind = ast.FunctionDef if members is None else ast.ClassDef
+                self.assertIsInstance(found.get(word), kind, word)
+                if members:
+                    own = {node.name for node in found[word].body if isinstance(node, ast.FunctionDef)}
+                    self.assertLessEqual(set(members), own, word)
+
+
+if __name__ == "__main__":
+    unittest.main()
