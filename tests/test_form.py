@@ -16,6 +16,12 @@ INTERFACE = {
     "words": {"is_name": None, "is_type": None, "element_of": None},
     "codes": {"is_instruction": None, "Method": ("name", "params", "result", "size", "code")},
     "classes": {"ClassText": ("name", "above", "marks", "fields", "methods", "field", "method")},
+    "tables": {"Tables": ("names", "add_loader", "add_class", "ask", "way", "identity", "text", "copy", "__len__",
+                          "__contains__", "__getitem__", "__eq__"),
+               "Loader": ("name", "rest", "asks", "classes", "__contains__", "__getitem__", "__eq__")},
+    "sets": {"least_table": None, "wrong_reason": None, "is_closed": None, "is_right": None, "needs": None},
+    "formats": {"format_class": None, "parse_class": None},
+    "running": {"Report": ("told", "ending", "steps", "loads", "parts", "__eq__")},
 }
 BARRED = {"register", "mro", "elements", "open", "input", "law", "version_info", "with_traceback", "add_note"}
 LIBRARY = {"heapq", "math", "itertools", "collections"}
@@ -38,6 +44,9 @@ def names_in(tree):
 
 
 class TestFiles(unittest.TestCase):
+    def test_the_interface_of_each_file_is_listed(self):
+        self.assertEqual(set(INTERFACE) | {"__init__"}, set(sources()))
+
     def test_only_plain_files(self):
         for path in PACKAGE.iterdir():
             if path.name != "__pycache__":
@@ -97,6 +106,49 @@ class TestModules(unittest.TestCase):
     def test_words_about_types(self):
         for name, text in sources().items():
             self.assertIsNone(re.search(r"\(type\)|Meta|metaclass=|_wall", text), name)
+
+
+def classes_in(tree):
+    return [node for node in tree.body if isinstance(node, ast.ClassDef)]
+
+
+def methods_of(node):
+    return {part.name: part for part in node.body if isinstance(part, ast.FunctionDef)}
+
+
+def is_property(method):
+    return [each.id for each in method.decorator_list] == ["property"]
+
+
+class TestClasses(unittest.TestCase):
+    def test_special_methods(self):
+        allowed = {"__init__", "__eq__", "__len__", "__contains__", "__getitem__", "__iter__"}
+        for tree in trees().values():
+            for node in classes_in(tree):
+                special = {name for name in methods_of(node) if name.startswith("__")}
+                self.assertLessEqual(special, allowed, node.name)
+
+    def test_what_can_be_indexed_refuses_to_be_iterated_over(self):
+        for tree in trees().values():
+            for node in classes_in(tree):
+                methods = methods_of(node)
+                self.assertEqual("__getitem__" in methods, "__iter__" in methods, node.name)
+                for statement in methods["__iter__"].body if "__iter__" in methods else ():
+                    self.assertIsInstance(statement, ast.Raise)
+
+    def test_names_of_properties(self):
+        classes = [node for tree in trees().values() for node in classes_in(tree)]
+        both = [(name, is_property(method)) for node in classes for name, method in methods_of(node).items()]
+        properties = {name for name, yes in both if yes}
+        self.assertFalse(properties & {name for name, yes in both if not yes})
+        assigned = {node.attr for tree in trees().values() for node in ast.walk(tree)
+                    if isinstance(node, ast.Attribute) and not isinstance(node.ctx, ast.Load)}
+        self.assertFalse(properties & assigned)
+
+    def test_no_generator_is_given_to_a_builtin(self):
+        for name, tree in trees().items():
+            for node in ast.walk(tree):
+                self.assertNotIsInstance(node, (ast.GeneratorExp, ast.SetComp), name)
 
 
 class TestInterface(unittest.TestCase):
