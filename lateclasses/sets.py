@@ -274,13 +274,18 @@ def is_right(owner, method, value):
     return is_closed_table(owner, method, value) and first_reason(method, value) is None
 
 
-def needs(owner, method, table):
-    """Return the needs (A, B, index) of a right table, as a tuple."""
-    if not is_right(owner, method, table):
-        raise InvalidTable(table)
+def needs_of(method, table):
+    """Return the needs (A, B, index) of a table that is known to be right, as a tuple."""
     found = {}
     for index, row in enumerate(table):
         if row is not None:
             for one, other in assumptions_of_row(method, index, row):
                 found[(one, other, index)] = True
     return tuple(found)
+
+
+def needs(owner, method, table):
+    """Return the needs (A, B, index) of a right table, as a tuple."""
+    if not is_right(owner, method, table):
+        raise InvalidTable(table)
+    return needs_of(method, table)

@@ -12,9 +12,9 @@ def way_of(loaders, start, name):
     while at is not None:
         way.append(at)
         loader = loaders[at]
-        if name in loader._texts:
+        if loader.has_text(name):
             return tuple(way)
-        at = loader._asks.get(name, loader._rest)
+        at = loader.asked_for(name)
     return ()
 
 
@@ -71,6 +71,14 @@ class Loader:
         """The names of its own texts, as a tuple."""
         return tuple(self._texts)
 
+    def has_text(self, name):
+        """Tell whether it has a text of this name of its own."""
+        return name in self._texts
+
+    def asked_for(self, name):
+        """Return the name of the loader that it asks for a name of which it has no text, or None."""
+        return self._asks.get(name, self._rest)
+
     def __contains__(self, x):
         return is_name(x) and identity_of(self._loaders, self._name, x) is not None
 
@@ -116,23 +124,35 @@ class Tables:
 
     def add_class(self, loader, text):
         """Give a loader a class text of its own."""
+        self.require_class(loader, text)
+        self._loaders[loader]._texts[text.name] = text
+
+    def ask(self, loader, name, other):
+        """Let a loader ask another one, added before it, for a name."""
+        self.require_ask(loader, name, other)
+        self._loaders[loader]._asks[name] = other
+
+    def require_class(self, loader, text):
+        """Raise the error of add_class, if there is one."""
         require_loader(self, loader)
         if not isinstance(text, ClassText):
             raise InvalidClass(text)
         self._require_free(loader, text.name)
-        texts = self._loaders[loader]._texts
-        if len(texts) >= Tables.CLASSES:
+        if len(self._loaders[loader]._texts) >= Tables.CLASSES:
             raise LimitExceeded(Tables.CLASSES)
-        texts[text.name] = text
 
-    def ask(self, loader, name, other):
-        """Let a loader ask another one, added before it, for a name."""
+    def require_ask(self, loader, name, other):
+        """Raise the error of ask, if there is one."""
         require_loader(self, loader)
         if not is_own_name(name):
             raise InvalidName(name)
         self._require_earlier(loader, other)
         self._require_free(loader, name)
-        self._loaders[loader]._asks[name] = other
+
+    def drop(self, names):
+        """Remove the loaders of these names; none that stays asks one of them."""
+        for name in names:
+            del self._loaders[name]
 
     def way(self, loader, name):
         """Return the way of a name from a loader, () if there is none."""

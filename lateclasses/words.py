@@ -7,6 +7,8 @@ here, and an object that only poses as a text must not be taken for one.
 TOP = ("", "top")
 
 MOST_LETTERS = 8
+# No value of the package is nested deeper.
+MOST_DEPTH = 10
 ARRAY_SIGN = "[]"
 
 
@@ -37,3 +39,10 @@ def is_number(value, low, high):
 def is_series(value, most):
     """Tell whether any object is a list or tuple of at most so many items."""
     return type(value) in (list, tuple) and len(value) <= most
+
+
+def is_plain(value, depth):
+    """Tell whether any object is made of None, texts, integers and tuples, not nested deeper than that."""
+    if type(value) == tuple:
+        return depth > 0 and all([is_plain(item, depth - 1) for item in value])
+    return value is None or type(value) in (str, int)

@@ -22,6 +22,23 @@ INTERFACE = {
     "sets": {"least_table": None, "wrong_reason": None, "is_closed": None, "is_right": None, "needs": None},
     "formats": {"format_class": None, "parse_class": None},
     "running": {"Report": ("told", "ending", "steps", "loads", "parts", "__eq__")},
+    "machine": {"Machine": ("add_loader", "add_class", "ask", "bind", "load", "check", "run", "watch", "keeps",
+                            "forget", "release", "unload", "take_down", "bring_up", "loaders", "released", "down",
+                            "tables_now", "list_loaded", "reason", "meaning", "list_equations", "list_assumptions",
+                            "table", "__getitem__", "__contains__", "__len__", "journal", "calls", "copy", "trial",
+                            "attempt", "__eq__"),
+                "Trial": ("machine", "accept", "__enter__", "__exit__"),
+                "Seen": ("chain", "marks", "__contains__", "__and__", "__len__", "__eq__")},
+    "eager": {"EagerMachine": (), "compared": None, "Comparison": ("late", "eager", "saved", "agrees")},
+    "unloading": {"needed_by": None, "removable": None},
+    "judge": {"first_wrong": None},
+    "journal": {"format_journal": None, "parse_journal": None, "recovered": None, "restored": None},
+    "questions": {"why": None, "who": None, "joined": None, "open_assumptions": None, "what_fails": None,
+                  "what_if": None},
+    "reach": {"reach": None, "is_reach": None},
+    "console": {"Console": ("execute",)},
+    # What the interface does not list.
+    "state": {}, "heap": {}, "loading": {}, "closing": {}, "playing": {},
 }
 BARRED = {"register", "mro", "elements", "open", "input", "law", "version_info", "with_traceback", "add_note"}
 LIBRARY = {"heapq", "math", "itertools", "collections"}
@@ -122,7 +139,8 @@ def is_property(method):
 
 class TestClasses(unittest.TestCase):
     def test_special_methods(self):
-        allowed = {"__init__", "__eq__", "__len__", "__contains__", "__getitem__", "__iter__"}
+        allowed = {"__init__", "__eq__", "__len__", "__contains__", "__getitem__", "__iter__", "__and__", "__enter__",
+                   "__exit__"}
         for tree in trees().values():
             for node in classes_in(tree):
                 special = {name for name in methods_of(node) if name.startswith("__")}

@@ -1,0 +1,222 @@
+"""The reach of a method: what a run of it may load and check, found by the tables alone.
+
+A call stands for a reached call or ask: (place, key, sets, step), where the key is the
+identity that the chain or the marks of an object must have.
+"""
+
+from lateclasses.errors import InvalidName, UnknownLoader
+from lateclasses.sets import find_least_table, first_reason
+from lateclasses.words import MOST_DEPTH, TOP, is_name, is_plain
+
+
+class Facts:
+    """What is found of classes and methods by the tables; each is looked for once."""
+
+    def __init__(self, tables):
+        self.tables = tables
+        self.lines = {}
+        self.tests = {}
+
+    def text_of(self, identity):
+        """Return the class text of an identity."""
+        return self.tables.text(identity[0], identity[1])
+
+    def line(self, identity):
+        """Return the chain of an identity by the tables if it is whole, () if it is not."""
+        if identity not in self.lines:
+            found = {}
+            at = identity
+            while at is not None and at != TOP and at not in found:
+                found[at] = True
+                at = self.tables.identity(at[0], self.text_of(at).above)
+            self.lines[identity] = tuple(found) if at == TOP else ()
+        return self.lines[identity]
+
+    def holder(self, identity, word):
+        """Return the first identity of a whole chain that declares a method of this name, or None."""
+        for at in self.line(identity):
+            if self.text_of(at).method(word) is not None:
+                return at
+        return None
+
+    def keys_of(self, identity):
+        """Return what calls can ask of an object of a class: a dict of ("call" or "ask", identity)."""
+        if identity not in self.tests:
+            found = {}
+            for at in self.line(identity):
+                found[("call", at)] = True
+                for mark in self.text_of(at).marks:
+                    found[("ask", self.tables.identity(at[0], mark))] = True
+            self.tests[identity] = found
+        return self.tests[identity]
+
+    def steps_of(self, identity, word):
+        """Return the reached instructions of a right method with their places and rows, none of a wrong one."""
+        method = self.text_of(identity).method(word)
+        table = find_least_table(identity[1], method)
+        if first_reason(method, table) is not None:
+            return []
+        loader, name = identity
+        return [((loader, name, word, index), method.code[index], row)
+                for index, row in enumerate(table) if row is not None]
+
+
+class Call:
+    """A call or ask that is reached."""
+
+    def __init__(self, facts, place, step, row):
+        self.place = place
+        self.step = step
+        wanted = facts.tables.identity(place[0], step[3])
+        # No class has top as what a call can ask of it.
+        self.key = (step[0], wanted)
+        held = row[step[2]]
+        self.takes_all = "top" in held
+        names = [kind for kind in held if is_name(kind)]
+        self.takes = {facts.tables.identity(place[0], name): True for name in names}
+
+    def entry(self, facts, identity):
+        """Return the entry that this call adds with an object of a class, or None."""
+        if self.key[1] is None or self.key not in facts.keys_of(identity):
+            return None
+        if not self.takes_all and not any([at in self.takes for at in facts.line(identity)]):
+            return None
+        step = self.step
+        holder = facts.holder(identity, step[4])
+        if holder is None:
+            return None
+        method = facts.text_of(holder).method(step[4])
+        if method.params != step[5] or method.result != step[6]:
+            return None
+        return ("method", holder, step[4], ("call", self.place, identity))
+
+
+def first_entries(facts, loader, name, word):
+    """Return the entries at first."""
+    identity = facts.tables.identity(loader, name)
+    if identity is None or identity == TOP:
+        return []
+    found = [("class", identity, ("run",))]
+    holder = facts.holder(identity, word)
+    if holder is not None:
+        found.append(("method", holder, word, ("run",)))
+    return found
+
+
+def entry_above(facts, identity):
+    """Return the entries that a class adds for the class above it, as a list."""
+    above = facts.tables.identity(identity[0], facts.text_of(identity).above)
+    if above is None or above == TOP:
+        return []
+    return [("class", above, ("above", identity))]
+
+
+def entry_new(facts, place, step):
+    """Return the entries that an instruction new adds, as a list."""
+    identity = facts.tables.identity(place[0], step[2])
+    if identity is None or identity == TOP:
+        return []
+    return [("class", identity, ("new", place))]
+
+
+class Search:
+    """The classes and calls whose turn has been, and those of them that can meet."""
+
+    def __init__(self, facts):
+        self.facts = facts
+        self.calls_by_key = {}
+        self.classes_by_key = {}
+        self.many = 0
+
+    def turn_of_class(self, identity):
+        """Return the entries that a class adds in its turn."""
+        facts = self.facts
+        found = entry_above(facts, identity)
+        calls = []
+        for key in facts.keys_of(identity):
+            calls.extend(self.calls_by_key.get(key, []))
+            self.classes_by_key.setdefault(key, []).append(identity)
+        for _, call in sorted(calls, key=lambda pair: pair[0]):
+            found.append(call.entry(facts, identity))
+        return [entry for entry in found if entry is not None]
+
+    def turn_of_method(self, identity, word):
+        """Return the entries that a method adds in its turn."""
+        found = []
+        for place, step, row in self.facts.steps_of(identity, word):
+            if step[0] == "new":
+                found.extend(entry_new(self.facts, place, step))
+            elif step[0] in ("call", "ask"):
+                found.extend(self.meet(Call(self.facts, place, step, row)))
+        return [entry for entry in found if entry is not None]
+
+    def meet(self, call):
+        """Return the entries that a call adds with the classes whose turn has been, and let later ones meet it."""
+        self.many += 1
+        self.calls_by_key.setdefault(call.key, []).append((self.many, call))
+        return [call.entry(self.facts, identity) for identity in self.classes_by_key.get(call.key, [])]
+
+    def turn(self, entry):
+        """Return the entries that an entry adds in its turn."""
+        if entry[0] == "class":
+            return self.turn_of_class(entry[1])
+        return self.turn_of_method(entry[1], entry[2])
+
+
+def key_of(entry):
+    """Return what of an entry stands only once in a list."""
+    return entry[:2] if entry[0] == "class" else entry[:3]
+
+
+def require(tables, loader, name, method):
+    """Raise UnknownLoader or InvalidName unless these are a loader and two names."""
+    if loader not in tables:
+        raise UnknownLoader(loader)
+    for word in (name, method):
+        if not is_name(word):
+            raise InvalidName(word)
+
+
+def reach(tables, loader, name, method):
+    """Return what a run of a method may load and check, as a tuple of entries."""
+    require(tables, loader, name, method)
+    facts = Facts(tables)
+    search = Search(facts)
+    found = first_entries(facts, loader, name, method)
+    seen = {key_of(entry): True for entry in found}
+    index = 0
+    while index < len(found):
+        added = search.turn(found[index])
+        index += 1
+        for entry in added:
+            if key_of(entry) not in seen:
+                seen[key_of(entry)] = True
+                found.append(entry)
+    return tuple(found)
+
+
+def is_entry(value):
+    """Tell whether any object has the form of an entry."""
+    if not is_plain(value, MOST_DEPTH) or type(value) != tuple or len(value) == 0:
+        return False
+    return (value[0] == "class" and len(value) == 3) or (value[0] == "method" and len(value) == 4)
+
+
+def is_reach(tables, loader, name, method, value):
+    """Tell whether any object is a certificate."""
+    require(tables, loader, name, method)
+    if type(value) != tuple or not all([is_entry(entry) for entry in value]):
+        return False
+    facts = Facts(tables)
+    search = Search(facts)
+    keys = {key_of(entry): True for entry in value}
+    if len(keys) != len(value):
+        return False
+    # By each entry that can stand next: all that the entries ahead of it would add.
+    allowed = {entry: True for entry in first_entries(facts, loader, name, method)}
+    for entry in value:
+        if entry not in allowed:
+            return False
+        for added in search.turn(entry):
+            allowed[added] = True
+    return all([key_of(entry) in keys for entry in allowed])
