@@ -1,7 +1,8 @@
 """What is done at the end of each call and of each instruction: the eager work, and closing."""
 
 from lateclasses.codes import FORMS
-from lateclasses.loading import bind, check, class_names, first_with_field, first_with_method, join, load, method_types
+from lateclasses.loading import bind, check, class_names, join, load
+from lateclasses.state import FIELD, METHOD, method_types
 
 
 def class_of_use(step):
@@ -9,26 +10,20 @@ def class_of_use(step):
     return step[2] if step[0] == "put" else step[3]
 
 
-def wanted_by_field(state, chain, step):
-    """Return the equations (name, other loader) that a due get or put wants of a chain."""
-    word, kind = (step[4], step[5]) if step[0] == "get" else (step[3], step[4])
-    holder = first_with_field(state, chain, word)
-    if holder is None or state.text_of(holder).field(word) != kind:
-        return []
-    return [(name, holder[0]) for name in class_names([kind])]
+def wanted_member(step):
+    """Return (kind, name, types): what a use wants to be declared."""
+    if step[0] == "get":
+        return (FIELD, step[4], (step[5],))
+    if step[0] == "put":
+        return (FIELD, step[3], (step[4],))
+    return (METHOD, step[4], step[5] + (step[6],))
 
 
-def wanted_by_call(state, chain, step):
-    """Return the equations (name, other loader) that a due call or ask wants of a chain."""
-    holder = first_with_method(state, chain, step[4])
-    types = step[5] + (step[6],)
-    if holder is None or method_types(state.text_of(holder).method(step[4])) != types:
-        return []
-    return [(name, holder[0]) for name in class_names(types)]
-
-
-def bearers(state, place, step, start):
-    """Return the loaded classes, from the one numbered start on, for which an ask is due."""
+def objects_of(state, place, step, start):
+    """Return the loaded classes for which a use is due; for an ask, from the one numbered start on."""
+    if step[0] != "ask":
+        identity = state.meaning(place[0], class_of_use(step))
+        return [identity] if identity in state.chains else []
     mark = state.meaning(place[0], step[3])
     if mark is None:
         return []
@@ -40,17 +35,14 @@ def wanted(state, place, step, start):
 
     Of an ask, only those that come from the loaded classes from the one numbered start on.
     """
-    if step[0] == "ask":
-        found = []
-        for identity in bearers(state, place, step, start):
-            found.extend(wanted_by_call(state, state.chains[identity], step))
-        return found
-    if not state.is_live(place[0], class_of_use(step)):
-        return []
-    chain = state.chains[state.meaning(place[0], class_of_use(step))]
-    if step[0] == "call":
-        return wanted_by_call(state, chain, step)
-    return wanted_by_field(state, chain, step)
+    kind, word, types = wanted_member(step)
+    loaders = {}
+    for identity in objects_of(state, place, step, start):
+        found = state.member(identity, kind, word)
+        if found is not None and found[1] == types:
+            loaders[found[0][0]] = True
+    names = class_names(types)
+    return [(name, loader) for loader in loaders for name in names]
 
 
 def is_known(state, place, step):

@@ -8,9 +8,9 @@ from lateclasses.classes import is_own_name
 from lateclasses.closing import close, names_of_text, wanted
 from lateclasses.errors import ClassError, Failing, InvalidJournal
 from lateclasses.formats import format_class, parse_class
-from lateclasses.loading import class_names, first_with_method, method_types, misfit, overrides
+from lateclasses.loading import class_names, misfit, overrides
 from lateclasses.sets import is_right, least_table
-from lateclasses.state import State
+from lateclasses.state import METHOD, State, method_types
 from lateclasses.unloading import gone_equations, is_free
 from lateclasses.words import MOST_DEPTH, is_name, is_plain
 
@@ -29,9 +29,7 @@ def are_names(value, many):
 
 def has_text(state, identity):
     """Tell whether a plain value is an identity of which there is a text."""
-    if not are_names(identity, 2) or identity[0] not in state.tables:
-        return False
-    return state.tables[identity[0]].has_text(identity[1])
+    return are_names(identity, 2) and identity in state.texts
 
 
 def method_at(state, place):
@@ -116,9 +114,8 @@ def is_wanted_by_override(state, name, loader, other, place):
     method = method_at(state, place)
     if method is None or place[0] != loader or place[3] is not None:
         return False
-    chain = state.chains.get(state.meaning(loader, state.text_of(place[:2]).above), ())
-    above = first_with_method(state, chain, method.name)
-    return above is not None and above[0] == other and name in class_names(method_types(method))
+    found = state.member(state.meaning(loader, state.text_of(place[:2]).above), METHOD, method.name)
+    return found is not None and found[0][0] == other and name in class_names(method_types(method))
 
 
 def accept_equation(state, pending, name, loader, other, place):
@@ -195,7 +192,7 @@ def accept_load(state, pending, identity, reason):
         return False
     if None in [state.meaning(loader, mark) for mark in text.marks]:
         return False
-    if misfit(state, text, state.chains[state.meaning(loader, text.above)]) is not None:
+    if misfit(state, text, state.meaning(loader, text.above)) is not None:
         return False
     if not is_ground(state, pending, identity, reason):
         return False
@@ -224,7 +221,7 @@ def is_united(state, name, loader):
 def has_joined(state, identity):
     """Tell whether a loaded class is joined with the classes of which it has methods, too."""
     loader = identity[0]
-    for _, other, names in overrides(state, state.text_of(identity), state.chains[identity][1:]):
+    for _, other, names in overrides(state, state.text_of(identity), state.chains[identity][1]):
         if not all([state.is_joined(name, loader, other) for name in names]):
             return False
     return True

@@ -5,6 +5,7 @@ done stands on the trail of the state until it is done.
 """
 
 from lateclasses.sets import find_least_table, first_reason
+from lateclasses.state import FIELD, METHOD, method_types
 from lateclasses.words import element_of
 
 
@@ -12,27 +13,6 @@ def class_names(types):
     """Return the class names in types, top left out, in order."""
     names = [kind if element_of(kind) is None else element_of(kind) for kind in types]
     return [name for name in names if name != "top"]
-
-
-def method_types(method):
-    """Return the types of a method: those of its parameters, then that of its result."""
-    return method.params + (method.result,)
-
-
-def first_with_method(state, chain, word):
-    """Return the first identity of a chain that declares a method of this name, or None."""
-    for identity in chain:
-        if identity[0] != "" and state.text_of(identity).method(word) is not None:
-            return identity
-    return None
-
-
-def first_with_field(state, chain, word):
-    """Return the first identity of a chain that declares a field of this name, or None."""
-    for identity in chain:
-        if identity[0] != "" and state.text_of(identity).field(word) is not None:
-            return identity
-    return None
 
 
 def take_over(state, name, source, identity, group):
@@ -99,44 +79,44 @@ def finish_load(state, identity, reason):
     """Load an identity of which the class above is loaded."""
     loader, name = identity
     text = state.text_of(identity)
-    chain = state.chains[state.meaning(loader, text.above)]
-    fault = misfit(state, text, chain)
+    above = state.meaning(loader, text.above)
+    fault = misfit(state, text, above)
     if fault is not None:
         state.fail("Shape", (identity, fault))
     for mark in text.marks:
         if state.source(loader, mark) is None:
             state.fail("Shape", (identity, ("mark", mark)))
         bind(state, loader, mark)
-    for word, at, names in overrides(state, text, chain):
+    for word, at, names in overrides(state, text, above):
         for kind in names:
             join(state, kind, loader, at, (loader, name, word, None))
     bind(state, loader, name)
     state.add_load(identity, reason)
 
 
-def misfit(state, text, chain):
-    """Return why the fields or methods of a text do not fit under the chain above it, or None."""
+def misfit(state, text, above):
+    """Return why the fields or methods of a text do not fit below a loaded class, or None."""
     for word, _ in text.fields:
-        if first_with_field(state, chain, word) is not None:
+        if state.member(above, FIELD, word) is not None:
             return ("field", word)
     for method in text.methods:
-        above = first_with_method(state, chain, method.name)
         # All classes further up agree with the nearest one: they were loaded so.
-        if above is not None and method_types(state.text_of(above).method(method.name)) != method_types(method):
+        found = state.member(above, METHOD, method.name)
+        if found is not None and found[1] != method_types(method):
             return ("method", method.name)
     return None
 
 
-def overrides(state, text, chain):
-    """Return what the methods of a text need of the nearest classes of a chain that have them, too.
+def overrides(state, text, above):
+    """Return what the methods of a text need of the nearest classes, from a loaded one up, that have them, too.
 
     This is a list of tuples (name of the method, loader of that class, class names in the types).
     """
     found = []
     for method in text.methods:
-        above = first_with_method(state, chain, method.name)
-        if above is not None:
-            found.append((method.name, above[0], class_names(method_types(method))))
+        nearest = state.member(above, METHOD, method.name)
+        if nearest is not None:
+            found.append((method.name, nearest[0][0], class_names(method_types(method))))
     return found
 
 

@@ -2,8 +2,9 @@
 
 from lateclasses.closing import complete
 from lateclasses.errors import Failing
-from lateclasses.loading import bind, check, first_with_field, first_with_method, load, method_types
+from lateclasses.loading import bind, check, load
 from lateclasses.running import Report
+from lateclasses.state import FIELD, METHOD
 from lateclasses.words import element_of
 
 
@@ -103,9 +104,10 @@ def enter_run(state, loader, name, word, values):
     """Do what a run begins with; return the class that has its method, and what the first registers hold."""
     identity = bind(state, loader, name)
     load(state, identity, ("run",))
-    holder = first_with_method(state, state.chains[identity], word)
-    if holder is None:
+    found = state.member(identity, METHOD, word)
+    if found is None:
         fail("NoEntry")
+    holder = found[0]
     given = [None if value is None else state.heap.kept[value] for value in values]
     require_fit(state, holder, state.text_of(holder).method(word).params, given)
     check(state, holder, word)
@@ -162,9 +164,8 @@ def do_move(play, frame, step, place):
 
 def require_field(state, loader, name, word, kind):
     """Fail with NoField unless the chain of a class name declares the field with this type."""
-    chain = state.chains.get(state.meaning(loader, name), ())
-    holder = first_with_field(state, chain, word)
-    if holder is None or state.text_of(holder).field(word) != kind:
+    found = state.member(state.meaning(loader, name), FIELD, word)
+    if found is None or found[1] != (kind,):
         fail("NoField")
 
 
@@ -184,12 +185,12 @@ def do_put(play, frame, step, place):
     play.state.heap.fill(value, step[3], frame.spots[step[5]])
 
 
-def require_method(state, chain, step):
+def require_method(state, identity, step):
     """Return the first class of a chain that declares the method of a call or ask; fail with NoMethod without one."""
-    holder = first_with_method(state, chain, step[4])
-    if holder is None or method_types(state.text_of(holder).method(step[4])) != step[5] + (step[6],):
+    found = state.member(identity, METHOD, step[4])
+    if found is None or found[1] != step[5] + (step[6],):
         fail("NoMethod")
-    return holder
+    return found[0]
 
 
 def enter(play, frame, step, holder):
@@ -208,8 +209,8 @@ def do_call(play, frame, step, place):
     state = play.state
     value = frame.spots[step[2]]
     require_object(value)
-    require_method(state, state.chains.get(state.meaning(place[0], step[3]), ()), step)
-    enter(play, frame, step, first_with_method(state, state.chains[state.heap.class_of(value)], step[4]))
+    require_method(state, state.meaning(place[0], step[3]), step)
+    enter(play, frame, step, state.member(state.heap.class_of(value), METHOD, step[4])[0])
 
 
 def do_ask(play, frame, step, place):
@@ -221,7 +222,7 @@ def do_ask(play, frame, step, place):
     identity = state.heap.class_of(value)
     if mark not in state.emblems[identity]:
         fail("NoMark")
-    enter(play, frame, step, require_method(state, state.chains[identity], step))
+    enter(play, frame, step, require_method(state, identity, step))
 
 
 def do_cast(play, frame, step, place):

@@ -12,6 +12,22 @@ from lateclasses.tables import Tables
 from lateclasses.words import TOP, is_name
 
 USES = ("get", "put", "call", "ask")
+FIELD = "field"
+METHOD = "method"
+
+
+def method_types(method):
+    """Return the types of a method: those of its parameters, then that of its result."""
+    return method.params + (method.result,)
+
+
+def declared_types(text, kind, name):
+    """Return the types of the field or method of this name that a text declares, or None."""
+    if kind == FIELD:
+        found = text.field(name)
+        return None if found is None else (found,)
+    method = text.method(name)
+    return None if method is None else method_types(method)
 
 
 class State:
@@ -20,6 +36,8 @@ class State:
     def __init__(self, is_eager):
         self.is_eager = is_eager
         self.tables = Tables()
+        # By identity: the text.
+        self.texts = {}
         # By (loader, name): identities, and whether the tables cannot change for the name.
         self.meanings = {}
         self.fixed = {}
@@ -29,6 +47,8 @@ class State:
         self.reasons = {}
         self.chains = {TOP: (TOP,)}
         self.emblems = {TOP: ()}
+        # By (identity, kind, name): what member found, as long as nothing is unloaded or undone.
+        self.members = {}
         # All equations, and by (name, loader) those that join this loader.
         self.equations = []
         self.links = {}
@@ -54,7 +74,24 @@ class State:
 
     def text_of(self, identity):
         """Return the class text of an identity."""
-        return self.tables.text(identity[0], identity[1])
+        return self.texts[identity]
+
+    def member(self, identity, kind, name):
+        """Return (holder, types): the first class of a chain that declares a field or method of this name, or None."""
+        if identity not in self.chains:
+            return None
+        key = (identity, kind, name)
+        if key not in self.members:
+            self.members[key] = self._find_member(identity, kind, name)
+        return self.members[key]
+
+    def _find_member(self, identity, kind, name):
+        """Return what member does, by going up the chain."""
+        for holder in self.chains[identity]:
+            types = declared_types(self.texts[holder], kind, name) if holder != TOP else None
+            if types is not None:
+                return (holder, types)
+        return None
 
     def meaning(self, loader, name):
         """Return the identity to which a name of a loader is bound, or None."""
@@ -74,10 +111,9 @@ class State:
             path.append(at)
             if (at, name) in self.meanings:
                 return (path, self.meanings[(at, name)])
-            shown = self.tables[at]
-            if shown.has_text(name):
+            if (at, name) in self.texts:
                 return (path, (at, name))
-            at = shown.asked_for(name)
+            at = self.tables[at].asked_for(name)
         return (path, None)
 
     def group(self, name, loader):
@@ -134,6 +170,7 @@ class State:
                 del held[key]
             else:
                 held[key] = old
+        self.members = {}
         self._begin()
 
     def commit(self):
@@ -160,6 +197,7 @@ class State:
         self.tables.require_class(loader, text)
         self._require_loose(loader, text.name)
         self.tables.add_class(loader, text)
+        self.texts[(loader, text.name)] = text
         self.change.append(("class", loader, format_class(text)))
 
     def add_ask(self, loader, name, other):
@@ -251,6 +289,8 @@ class State:
         """Remove loaders with all that goes with them, and note the equations that keep the others joined."""
         self.tables.drop(names)
         stays = {name: True for name in self.tables.names}
+        self.texts = {identity: self.texts[identity] for identity in self.texts if identity[0] in stays}
+        self.members = {}
         self.meanings = {key: self.meanings[key] for key in self.meanings if key[0] in stays}
         self.fixed = {key: self.fixed[key] for key in self.fixed if key[0] in stays}
         self.order = [identity for identity in self.order if identity[0] in stays]
@@ -278,6 +318,7 @@ class State:
         """Return an independent state with all that this one has."""
         twin = State(self.is_eager)
         twin.tables = self.tables.copy()
+        twin.texts = {identity: self.texts[identity] for identity in self.texts}
         twin.meanings = {key: self.meanings[key] for key in self.meanings}
         twin.fixed = {key: True for key in self.fixed}
         twin.order = list(self.order)
