@@ -16,7 +16,7 @@ def format_identity(identity):
     return f"{identity[1]}@{identity[0]}"
 
 
-def told(parts, between):
+def listed(parts, between):
     """Return texts with something between them, or - if there are none."""
     return between.join(parts) if len(parts) > 0 else NOTHING
 
@@ -128,13 +128,13 @@ def do_run(machine, words, line):
 def do_unload(machine, words, line):
     """unload."""
     require(len(words) == 1, line)
-    return told(machine.unload(), " ")
+    return listed(machine.unload(), " ")
 
 
 def do_loaded(machine, words, line):
     """loaded."""
     require(len(words) == 1, line)
-    return told([format_identity(identity) for identity in machine.list_loaded()], " ")
+    return listed([format_identity(identity) for identity in machine.list_loaded()], " ")
 
 
 def do_why(machine, words, line):
@@ -149,7 +149,7 @@ def do_why(machine, words, line):
 def do_open(machine, words, line):
     """open."""
     require(len(words) == 1, line)
-    return told([" ".join(assumption) for assumption in open_assumptions(machine)], "; ")
+    return listed([" ".join(assumption) for assumption in open_assumptions(machine)], "; ")
 
 
 COMMANDS = {

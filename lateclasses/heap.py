@@ -80,7 +80,7 @@ class Heap:
         if name in self.kept:
             del self.kept[name]
 
-    def texts(self):
+    def kept_texts(self):
         """Return a dict from the names of what is kept to what is told of it."""
         return {name: self.text(value) for name, value in self.kept.items()}
 

@@ -12,7 +12,7 @@ from lateclasses.loading import class_names, misfit, overrides
 from lateclasses.sets import is_right, least_table
 from lateclasses.state import METHOD, State, method_types
 from lateclasses.unloading import gone_equations, is_free
-from lateclasses.words import MOST_DEPTH, is_name, is_plain
+from lateclasses.words import ENTRY_DEPTH, is_name, is_plain
 
 
 def is_journal(value):
@@ -32,9 +32,16 @@ def has_text(state, identity):
     return are_names(identity, 2) and identity in state.texts
 
 
+def is_place(place):
+    """Tell whether a plain value has the form of a place."""
+    if type(place) != tuple or len(place) != 4 or not are_names(place[:3], 3):
+        return False
+    return place[3] is None or type(place[3]) == int
+
+
 def method_at(state, place):
     """Return the method of a plain value that is a place, None if there is none."""
-    if type(place) != tuple or len(place) != 4 or not has_text(state, place[:2]):
+    if not is_place(place) or not has_text(state, place[:2]):
         return None
     return state.text_of(place[:2]).method(place[2])
 
@@ -122,7 +129,7 @@ def accept_equation(state, pending, name, loader, other, place):
     """Take an equation."""
     if loader not in state.tables or other not in state.tables or not is_name(name):
         return False
-    if state.is_joined(name, loader, other) or type(place) != tuple or len(place) != 4:
+    if state.is_joined(name, loader, other) or not is_place(place):
         return False
     if not is_wanted_by_use(state, name, loader, other, place):
         if not is_wanted_by_override(state, name, loader, other, place):
@@ -244,27 +251,29 @@ def is_settled(state, pending):
     return len(state.change) == many
 
 
+# How many items an entry of each kind has, and what takes it.
+SIZES = {"loader": 3, "class": 3, "ask": 4, "release": 2, "unload": 3, "bind": 4, "equation": 5, "load": 3, "check": 4}
 KINDS = {
-    "loader": (3, accept_loader),
-    "class": (3, accept_class),
-    "ask": (4, accept_ask),
-    "release": (2, accept_release),
-    "unload": (3, accept_unload),
-    "bind": (4, accept_bind),
-    "equation": (5, accept_equation),
-    "load": (3, accept_load),
-    "check": (4, accept_check),
+    "loader": accept_loader,
+    "class": accept_class,
+    "ask": accept_ask,
+    "release": accept_release,
+    "unload": accept_unload,
+    "bind": accept_bind,
+    "equation": accept_equation,
+    "load": accept_load,
+    "check": accept_check,
 }
 
 
 def accept(state, pending, entry):
     """Take an entry if it has its ground, and tell whether it has."""
-    if not is_plain(entry, MOST_DEPTH) or len(entry) == 0 or type(entry[0]) != str or entry[0] not in KINDS:
+    if not is_plain(entry, ENTRY_DEPTH) or len(entry) == 0 or type(entry[0]) != str or entry[0] not in KINDS:
         return False
-    many, action = KINDS[entry[0]]
+    if len(entry) != SIZES[entry[0]]:
+        return False
+    action = KINDS[entry[0]]
     given = entry[1:]
-    if len(entry) != many:
-        return False
     try:
         return action(state, pending, *given)
     except ClassError:

@@ -1,13 +1,14 @@
 """The machine: loaders, loaded classes and runs, and what it shows of them."""
 
 from lateclasses.closing import complete
-from lateclasses.errors import (Failing, InvalidChoices, InvalidLimit, InvalidName, InvalidOperand, InvalidValues,
-                                NotLoaded, UnknownLoader, UnknownName)
+from lateclasses.errors import (Failing, InvalidChoices, InvalidLimit, InvalidOperand, InvalidValues, NotLoaded,
+                                UnknownName)
 from lateclasses.loading import bind, check, load
 from lateclasses.playing import Play
 from lateclasses.state import State
+from lateclasses.tables import require_loader, require_name
 from lateclasses.unloading import unload_from
-from lateclasses.words import TOP, is_name, is_number
+from lateclasses.words import is_name, is_number
 
 MOST_LIMIT = 2000
 
@@ -15,18 +16,6 @@ MOST_LIMIT = 2000
 def is_identity(value):
     """Tell whether any object is a tuple of two texts."""
     return type(value) == tuple and len(value) == 2 and type(value[0]) == str and type(value[1]) == str
-
-
-def require_name(value):
-    """Raise InvalidName unless the object is a name."""
-    if not is_name(value):
-        raise InvalidName(value)
-
-
-def require_loader(state, value):
-    """Raise UnknownLoader unless the object is the name of a loader."""
-    if value not in state.tables:
-        raise UnknownLoader(value)
 
 
 def require_loaded(state, value):
@@ -49,7 +38,7 @@ def are_choices(value):
 
 def require_run(state, loader, name, method, values, choices, limit):
     """Raise the error of a run, if there is one."""
-    require_loader(state, loader)
+    require_loader(state.tables, loader)
     require_name(name)
     require_name(method)
     if not are_values(state.heap.kept, values):
@@ -98,7 +87,8 @@ class Trial:
     def __init__(self, owner):
         self._owner = owner
         self._twin = owner.copy()
-        self._accepted = False
+        # None or True: a test for None is all that the end of a block needs.
+        self._accepted = None
         self._held = None
 
     @property
@@ -114,12 +104,12 @@ class Trial:
         return self
 
     def __exit__(self, kind, value, trace):
-        if kind is None and self._accepted:
+        if kind is None and self._accepted is not None:
             self._held = self._owner._state
             self._owner._state = self._twin._state
             self._twin._state = self._held
             self._held = None
-        self._accepted = False
+        self._accepted = None
 
 
 class Machine:
@@ -171,7 +161,7 @@ class Machine:
     def bind(self, loader, name):
         """Bind a name of a loader and return its identity."""
         state = self._state
-        require_loader(state, loader)
+        require_loader(state.tables, loader)
         require_name(name)
         try:
             identity = bind(state, loader, name)
@@ -185,7 +175,7 @@ class Machine:
     def load(self, loader, name):
         """Bind a name of a loader, load its identity and return it."""
         state = self._state
-        require_loader(state, loader)
+        require_loader(state.tables, loader)
         require_name(name)
         try:
             identity = bind(state, loader, name)
@@ -239,7 +229,7 @@ class Machine:
 
     def keeps(self):
         """Return a dict from the names of kept objects to what is told of them."""
-        return self._state.heap.texts()
+        return self._state.heap.kept_texts()
 
     def forget(self, name):
         """Keep nothing under a name any more."""
@@ -251,7 +241,7 @@ class Machine:
 
     def release(self, loader):
         """Give a loader up."""
-        require_loader(self._state, loader)
+        require_loader(self._state.tables, loader)
         if loader not in self._state.given_up:
             self._state.give_up(loader)
         self._note("release", (loader,), None)
@@ -264,13 +254,13 @@ class Machine:
 
     def take_down(self, loader):
         """Let nothing of a loader be loaded from now on."""
-        require_loader(self._state, loader)
+        require_loader(self._state.tables, loader)
         self._state.off[loader] = True
         self._note("take_down", (loader,), None)
 
     def bring_up(self, loader):
         """Let classes of a loader be loaded again."""
-        require_loader(self._state, loader)
+        require_loader(self._state.tables, loader)
         if loader in self._state.off:
             del self._state.off[loader]
         self._note("bring_up", (loader,), None)
@@ -290,7 +280,7 @@ class Machine:
 
     def meaning(self, loader, name):
         """Return the identity to which a name of a loader is bound, or None."""
-        require_loader(self._state, loader)
+        require_loader(self._state.tables, loader)
         require_name(name)
         return self._state.meaning(loader, name)
 

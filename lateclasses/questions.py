@@ -1,18 +1,13 @@
 """Questions about a machine, of which none changes it."""
 
 from lateclasses.classes import ClassText
-from lateclasses.errors import ClassError, Failing, InvalidClass, NotLoaded, UnknownLoader
+from lateclasses.errors import ClassError, Failing, InvalidClass, NotLoaded
 from lateclasses.running import Report
+from lateclasses.tables import require_loader
 from lateclasses.words import is_name
 
 # The reasons that lead to another identity.
 LEADING = ("above", "eager")
-
-
-def require_loader(machine, value):
-    """Raise UnknownLoader unless the object is the name of a loader of the machine."""
-    if not is_name(value) or value not in machine.loaders:
-        raise UnknownLoader(value)
 
 
 def why(machine, identity):
@@ -37,11 +32,12 @@ def who(machine, loader, one, other):
 
 def joined(machine, name, loader, other):
     """Return the shortest chain of equations for a name between two loaders, None if there is none."""
-    require_loader(machine, loader)
-    require_loader(machine, other)
+    state = machine.state_now()
+    require_loader(state.tables, loader)
+    require_loader(state.tables, other)
     if loader == other:
         return ()
-    return machine.state_now().group(name, loader).get(other) if is_name(name) else None
+    return state.group(name, loader).get(other) if is_name(name) else None
 
 
 def open_assumptions(machine):
@@ -112,11 +108,12 @@ def exchanged(name, given, loader, text):
 
 def what_if(machine, loader, text):
     """Return which calls bring something else if a class has another text: tuples (index, before, after)."""
-    require_loader(machine, loader)
+    tables = machine.state_now().tables
+    require_loader(tables, loader)
     if not isinstance(text, ClassText):
         raise InvalidClass(text)
     # Raises UnknownClass if there is no text to be exchanged.
-    machine.tables_now().text(loader, text.name)
+    tables.text(loader, text.name)
     twin = machine.fresh()
     found = []
     for index, (name, given, before) in enumerate(machine.calls()):

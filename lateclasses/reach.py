@@ -1,12 +1,12 @@
 """The reach of a method: what a run of it may load and check, found by the tables alone.
 
-A call stands for a reached call or ask: (place, key, sets, step), where the key is the
-identity that the chain or the marks of an object must have.
+A call, or an ask, has a key: what the chain or the marks of a class must have so that an
+object of it can be the one that is called. So only those meet that have the same key.
 """
 
-from lateclasses.errors import InvalidName, UnknownLoader
 from lateclasses.sets import find_least_table, first_reason
-from lateclasses.words import MOST_DEPTH, TOP, is_name, is_plain
+from lateclasses.tables import require_loader, require_name
+from lateclasses.words import ENTRY_DEPTH, TOP, is_name, is_plain
 
 
 class Facts:
@@ -14,41 +14,41 @@ class Facts:
 
     def __init__(self, tables):
         self.tables = tables
-        self.lines = {}
-        self.tests = {}
+        self.chains_found = {}
+        self.keys_found = {}
 
     def text_of(self, identity):
         """Return the class text of an identity."""
         return self.tables.text(identity[0], identity[1])
 
-    def line(self, identity):
+    def chain_of(self, identity):
         """Return the chain of an identity by the tables if it is whole, () if it is not."""
-        if identity not in self.lines:
+        if identity not in self.chains_found:
             found = {}
             at = identity
             while at is not None and at != TOP and at not in found:
                 found[at] = True
                 at = self.tables.identity(at[0], self.text_of(at).above)
-            self.lines[identity] = tuple(found) if at == TOP else ()
-        return self.lines[identity]
+            self.chains_found[identity] = tuple(found) if at == TOP else ()
+        return self.chains_found[identity]
 
-    def holder(self, identity, word):
+    def holder_of(self, identity, word):
         """Return the first identity of a whole chain that declares a method of this name, or None."""
-        for at in self.line(identity):
+        for at in self.chain_of(identity):
             if self.text_of(at).method(word) is not None:
                 return at
         return None
 
     def keys_of(self, identity):
         """Return what calls can ask of an object of a class: a dict of ("call" or "ask", identity)."""
-        if identity not in self.tests:
+        if identity not in self.keys_found:
             found = {}
-            for at in self.line(identity):
+            for at in self.chain_of(identity):
                 found[("call", at)] = True
                 for mark in self.text_of(at).marks:
                     found[("ask", self.tables.identity(at[0], mark))] = True
-            self.tests[identity] = found
-        return self.tests[identity]
+            self.keys_found[identity] = found
+        return self.keys_found[identity]
 
     def steps_of(self, identity, word):
         """Return the reached instructions of a right method with their places and rows, none of a wrong one."""
@@ -79,10 +79,10 @@ class Call:
         """Return the entry that this call adds with an object of a class, or None."""
         if self.key[1] is None or self.key not in facts.keys_of(identity):
             return None
-        if not self.takes_all and not any([at in self.takes for at in facts.line(identity)]):
+        if not self.takes_all and not any([at in self.takes for at in facts.chain_of(identity)]):
             return None
         step = self.step
-        holder = facts.holder(identity, step[4])
+        holder = facts.holder_of(identity, step[4])
         if holder is None:
             return None
         method = facts.text_of(holder).method(step[4])
@@ -97,7 +97,7 @@ def first_entries(facts, loader, name, word):
     if identity is None or identity == TOP:
         return []
     found = [("class", identity, ("run",))]
-    holder = facts.holder(identity, word)
+    holder = facts.holder_of(identity, word)
     if holder is not None:
         found.append(("method", holder, word, ("run",)))
     return found
@@ -132,12 +132,13 @@ class Search:
         """Return the entries that a class adds in its turn."""
         facts = self.facts
         found = entry_above(facts, identity)
-        calls = []
+        calls = {}
         for key in facts.keys_of(identity):
-            calls.extend(self.calls_by_key.get(key, []))
             self.classes_by_key.setdefault(key, []).append(identity)
-        for _, call in sorted(calls, key=lambda pair: pair[0]):
-            found.append(call.entry(facts, identity))
+            for number, call in self.calls_by_key.get(key, []):
+                calls[number] = call
+        for number in sorted(list(calls)):
+            found.append(calls[number].entry(facts, identity))
         return [entry for entry in found if entry is not None]
 
     def turn_of_method(self, identity, word):
@@ -170,11 +171,9 @@ def key_of(entry):
 
 def require(tables, loader, name, method):
     """Raise UnknownLoader or InvalidName unless these are a loader and two names."""
-    if loader not in tables:
-        raise UnknownLoader(loader)
-    for word in (name, method):
-        if not is_name(word):
-            raise InvalidName(word)
+    require_loader(tables, loader)
+    require_name(name)
+    require_name(method)
 
 
 def reach(tables, loader, name, method):
@@ -197,7 +196,7 @@ def reach(tables, loader, name, method):
 
 def is_entry(value):
     """Tell whether any object has the form of an entry."""
-    if not is_plain(value, MOST_DEPTH) or type(value) != tuple or len(value) == 0:
+    if not is_plain(value, ENTRY_DEPTH) or type(value) != tuple or len(value) == 0:
         return False
     return (value[0] == "class" and len(value) == 3) or (value[0] == "method" and len(value) == 4)
 

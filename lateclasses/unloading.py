@@ -1,6 +1,6 @@
 """Which loaders need which, and which ones can be removed."""
 
-from lateclasses.errors import UnknownLoader
+from lateclasses.tables import require_loader
 
 
 def add_need(found, loader, other):
@@ -42,7 +42,8 @@ def removable_names(state):
     waiting = [name for name in state.tables.names if name not in state.given_up or name in kept]
     stays = {name: True for name in waiting}
     while len(waiting) > 0:
-        for other in found[waiting.pop()]:
+        at = waiting.pop()
+        for other in found[at]:
             if other not in stays:
                 stays[other] = True
                 waiting.append(other)
@@ -110,8 +111,7 @@ def unload_from(state):
 def needed_by(machine, loader):
     """Return the names of the other loaders that need a loader, in the order in which they were added."""
     state = machine.state_now()
-    if loader not in state.tables:
-        raise UnknownLoader(loader)
+    require_loader(state.tables, loader)
     found = needs_of_loaders(state)
     return [name for name in state.tables.names if loader in found[name]]
 

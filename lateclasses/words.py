@@ -7,8 +7,9 @@ here, and an object that only poses as a text must not be taken for one.
 TOP = ("", "top")
 
 MOST_LETTERS = 8
-# No value of the package is nested deeper.
+# Nothing in the text of a journal is nested deeper, and no entry of a journal or a reach.
 MOST_DEPTH = 10
+ENTRY_DEPTH = 6
 ARRAY_SIGN = "[]"
 
 

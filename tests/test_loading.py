@@ -3,7 +3,7 @@
 import unittest
 
 from lateclasses.classes import ClassText
-from tests.builders import failure, machine, text
+from tests.builders import failure, machine
 from tests.test_random_machine import shown
 
 
