@@ -120,6 +120,25 @@ class TestModules(unittest.TestCase):
         for name, tree in trees().items():
             self.assertFalse(BARRED & set(names_in(tree)), name)
 
+    def test_locals_have_no_names_of_classes_and_imports(self):
+        for name, tree in trees().items():
+            taken = {alias.asname or alias.name for node in tree.body if isinstance(node, ast.ImportFrom)
+                     for alias in node.names} | {node.name for node in classes_in(tree)}
+            for node in ast.walk(tree):
+                if isinstance(node, ast.FunctionDef):
+                    held = {part.arg for part in ast.walk(node) if isinstance(part, ast.arg)}
+                    held |= {part.id for part in ast.walk(node)
+                             if isinstance(part, ast.Name) and isinstance(part.ctx, ast.Store)}
+                    self.assertFalse(held & taken, (name, node.name))
+
+    def test_stars_and_texts_in_braces(self):
+        for name, tree in trees().items():
+            for node in ast.walk(tree):
+                if isinstance(node, ast.Starred):
+                    self.assertIsInstance(node.value, ast.Name, name)
+                if isinstance(node, ast.FormattedValue):
+                    self.assertFalse([part for part in ast.walk(node.value) if isinstance(part, ast.JoinedStr)], name)
+
     def test_words_about_types(self):
         for name, text in sources().items():
             self.assertIsNone(re.search(r"\(type\)|Meta|metaclass=|_wall", text), name)
@@ -162,6 +181,21 @@ class TestClasses(unittest.TestCase):
         assigned = {node.attr for tree in trees().values() for node in ast.walk(tree)
                     if isinstance(node, ast.Attribute) and not isinstance(node.ctx, ast.Load)}
         self.assertFalse(properties & assigned)
+
+    def test_no_name_is_a_method_and_an_attribute(self):
+        methods = {name for tree in trees().values() for node in classes_in(tree) for name in methods_of(node)}
+        assigned = {node.attr for tree in trees().values() for node in ast.walk(tree)
+                    if isinstance(node, ast.Attribute) and not isinstance(node.ctx, ast.Load)}
+        self.assertFalse(methods & assigned)
+
+    def test_what_ends_a_block(self):
+        """The method that ends a block only assigns plain things and asks for None."""
+        for tree in trees().values():
+            for node in classes_in(tree):
+                for part in ast.walk(methods_of(node).get("__exit__", ast.Module([], []))):
+                    self.assertNotIsInstance(part, (ast.Call, ast.BinOp, ast.Subscript, ast.Raise, ast.For, ast.While))
+                    if isinstance(part, ast.Compare):
+                        self.assertIsInstance(part.ops[0], (ast.Is, ast.IsNot))
 
     def test_no_generator_is_given_to_a_builtin(self):
         for name, tree in trees().items():

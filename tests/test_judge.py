@@ -215,6 +215,25 @@ class TestEntries(unittest.TestCase):
                       ("equation", "top", *equation[2:]), ("equation", "item", "shop", "base", equation[4][:3] + (True,))):
             self.wrong(*journal[:-1], journal[-1][:3] + (other,) + journal[-1][4:])
 
+    def test_uses_that_are_not_due(self):
+        one = machine("loader base", "class base sold top", "class base box top;mark sold;field held item"
+                      ";method show 2 item item;null 1;return 1;end", "loader shop base",
+                      "class shop user top;method m 3 top;null 1;ask 2 1 sold show item item 1;null 1;get 2 1 box held item"
+                      ";return 0;end")
+        one.load("base", "box")
+        one.load("shop", "user")
+        one.check(("shop", "user"), "m")
+        asked = ("equation", "item", "shop", "base", ("shop", "user", "m", 1))
+        got = ("equation", "item", "shop", "base", ("shop", "user", "m", 3))
+        self.wrong(*one.journal(), (asked,))
+        self.wrong(*one.journal(), (got,))
+        bound = ("bind", "shop", "sold", ("base", "sold")), ("bind", "shop", "box", ("base", "box"))
+        self.right(*one.journal(), (bound[0], asked))
+        self.right(*one.journal(), (bound[1], got))
+        self.wrong(*one.journal(), (bound[0], got))
+        self.wrong(*one.journal(), (bound[1], asked))
+        self.wrong(*one.journal(), bound)
+
     def test_an_assumption_that_does_not_hold(self):
         one = machine("loader shop", "class shop item top", "class shop pen top",
                       "class shop desk top;method m 2 item;new 1 pen;return 1;end")

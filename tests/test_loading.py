@@ -152,6 +152,16 @@ class TestFailures(unittest.TestCase):
         one = machine(*lines, book.format("away", ";field f item", "item"))
         self.fails(one, ("NoClass", ("shop", "away"), trail + (("bind", "shop", "away"),)), "shop", "book")
 
+    def test_another_class_above_after_a_failure(self):
+        """What was found in the chain of a class that is not loaded after all is forgotten."""
+        one = machine("loader base", "class base thing top;field f thing", "loader shop base", "class shop item thing",
+                      "class shop book item;mark none;field f item")
+        trail = (("load", ("shop", "book")),)
+        self.fails(one, ("Shape", (("shop", "book"), ("field", "f")), trail), "shop", "book")
+        one.add_class("shop", ClassText("thing"))
+        self.fails(one, ("Shape", (("shop", "book"), ("mark", "none")), trail), "shop", "book",
+                   mend=("shop", ClassText("none")))
+
     def test_the_name_is_bound_ahead_of_the_load(self):
         one = machine("loader shop")
         self.fails(one, ("NoClass", ("shop", "item"), (("bind", "shop", "item"),)), "shop", "item",

@@ -7,6 +7,7 @@ from lateclasses.eager import EagerMachine
 from lateclasses.errors import ClassError, Failing
 from lateclasses.judge import first_wrong
 from lateclasses.machine import Machine
+from lateclasses.questions import open_assumptions
 from lateclasses.unloading import needed_by, removable
 from tests import programs
 from tests.slow_machine import Fail, SlowMachine
@@ -55,6 +56,7 @@ def shown(machine):
         "chains": [list(machine[identity].chain) for identity in machine.list_loaded()],
         "equations": machine.list_equations(),
         "assumptions": machine.list_assumptions(),
+        "open": open_assumptions(machine),
         "bound": {(loader, name): machine.meaning(loader, name) for loader in machine.loaders
                   for name in programs.NAMES if machine.meaning(loader, name) is not None},
         "tables": {(identity, word): machine.table(identity, word) for identity in machine.list_loaded()
@@ -75,6 +77,7 @@ def shown_slowly(slow):
         "chains": [slow.chain(identity) for identity, _ in slow.loaded],
         "equations": slow.equations,
         "assumptions": [(*key, tuple(places)) for key, places in slow.assumed],
+        "open": [key for key, _ in slow.assumed if key not in slow.decided],
         "bound": slow.bound,
         "tables": {(identity, word): table for identity, word, table in slow.checked},
         "keeps": {name: str(thing) for name, thing in slow.kept.items()},

@@ -4,6 +4,7 @@ import unittest
 
 from lateclasses.errors import ClassError
 from lateclasses.machine import Machine
+from lateclasses.questions import open_assumptions
 from lateclasses.running import Report
 from tests.builders import machine
 from tests.slow_machine import Run
@@ -268,6 +269,85 @@ class TestInstructions(unittest.TestCase):
         report = one.run("shop", "desk", "m")
         self.assertEqual((report.loads, report.told), ([("shop", "desk"), ("shop", "item")], ["item@shop"]))
         self.assertEqual(one.list_loaded(), report.loads)
+
+
+class TestClosing(unittest.TestCase):
+    """What binds a name decides the assumptions about it at the end of the same instruction."""
+
+    LINES = ("loader base", "class base pen {}", "class base item top", "class base sold top", "loader shop base",
+             "class shop rack top;method n 2 item;new 1 pen;return 1;end",
+             "class shop desk top;method m 3 top pen;{};return 0;end;method v 2 top pen;return 1;end",
+             "class base maker top;method make 2 top;new 1 pen;return 1;end")
+
+    def made(self, above, code="null 2"):
+        one = machine(*[line.format(above) if "pen {}" in line else line.format(code) for line in self.LINES])
+        one.run("base", "maker", "make", keep="p")
+        one.load("shop", "rack")
+        one.check(("shop", "rack"), "n")
+        one.run("shop", "desk", "m", [None], limit=0)
+        self.assertIsNone(one.meaning("shop", "pen"))
+        self.assertEqual(open_assumptions(one), [("shop", "pen", "item")])
+        return one
+
+    def test_instructions(self):
+        # The array is of top, so that storing binds nothing; 0 is the object, which is no pen.
+        for code, index in (("ifis 0 pen 1", 0), ("new 2 pen", 0), ("array 2 pen 1;cast 2 0 pen", None)):
+            one = self.made("top", code)
+            before = shown(one)
+            report = one.run("shop", "desk", "m", [None])
+            if index is None:
+                self.assertEqual(report.ending[1][0], "Cast")
+            else:
+                self.assertEqual((report.ending[1][0], report.ending[1][2], report.ending[2]),
+                                 ("Refused", (("decide", "shop", "pen", "item"),), ("shop", "desk", "m", index)))
+            self.assertEqual(shown(one), before)
+
+    def test_what_holds(self):
+        for code in ("ifis 0 pen 1", "new 2 pen"):
+            one = self.made("item", code)
+            self.assertEqual(one.run("shop", "desk", "m", [None]).ending[0], "returned")
+            self.assertEqual((open_assumptions(one), one.meaning("shop", "item")), ([], ("base", "item")))
+
+    def kept(self, above, code):
+        """Code of base that makes a pen, seen from shop, where it is cast, stored or a value."""
+        lines = ("loader base", f"class base pen {above}", "class base item top", "class base maker top;method make 2 top;new 1 pen"
+                 ";return 1;end", "loader shop base", "class shop rack top;method n 2 item;new 1 pen;return 1;end",
+                 f"class shop desk top;method m 4 top top;{code};return 0;end;method v 2 top pen;return 0;end")
+        one = machine(*lines)
+        one.run("base", "maker", "make", keep="p")
+        one.load("shop", "rack")
+        one.check(("shop", "rack"), "n")
+        return one
+
+    def test_casts_stores_and_values(self):
+        for code, index in (("cast 2 1 pen", 0), ("array 2 pen 1;store 2 0 1", 1), ("ifis 1 pen 1", 0)):
+            one = self.kept("top", code)
+            one.run("shop", "desk", "m", ["p"], limit=0)
+            before = shown(one)
+            report = one.run("shop", "desk", "m", ["p"])
+            self.assertEqual((report.ending[1][0], report.ending[2], report.steps),
+                             ("Refused", ("shop", "desk", "m", index), index + 1), code)
+            self.assertEqual(shown(one), before)
+            one = self.kept("item", code)
+            self.assertEqual(one.run("shop", "desk", "m", ["p"]).ending[0], "returned")
+            self.assertEqual(open_assumptions(one), [])
+        one = self.kept("top", "null 2")
+        before = shown(one)
+        self.assertEqual(one.run("shop", "desk", "v", ["p"]).ending[1:], (
+            ("Refused", ("shop", "pen", "item", (("shop", "rack", "n", 1),), (("base", "pen"), ("", "top"))),
+             (("decide", "shop", "pen", "item"),)), None))
+        self.assertEqual(shown(one), before)
+
+    def test_the_method_that_is_called(self):
+        """The check that a call brings is closed at the end of the call instruction."""
+        lines = ("loader shop", "class shop item top", "class shop pen top;method n 1 item;return 0;end", "class shop sold top",
+                 "class shop ink pen;mark sold;method o 1 item;return 0;end",
+                 "class shop desk top;method m 3 top;new 1 {0};{1};return 0;end")
+        for name, call in (("pen", "call 2 1 pen n - item -"), ("ink", "ask 2 1 sold o - item -")):
+            one = machine(*[line.format(name, call) for line in lines])
+            report = one.run("shop", "desk", "m")
+            self.assertEqual((report.ending[1][0], report.ending[2]), ("Refused", ("shop", "desk", "m", 1)))
+            self.assertIsNone(one.table(("shop", "pen"), "n"))
 
 
 class TestBeginning(unittest.TestCase):
