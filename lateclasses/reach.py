@@ -16,20 +16,21 @@ class Facts:
         self.tables = tables
         self.chains_found = {}
         self.keys_found = {}
+        self.steps_found = {}
 
     def text_of(self, identity):
         """Return the class text of an identity."""
         return self.tables.text(identity[0], identity[1])
 
     def chain_of(self, identity):
-        """Return the chain of an identity by the tables if it is whole, () if it is not."""
+        """Return the chain of an identity by the tables as a dict if it is whole, {} if it is not."""
         if identity not in self.chains_found:
             found = {}
             at = identity
             while at is not None and at != TOP and at not in found:
                 found[at] = True
                 at = self.tables.identity(at[0], self.text_of(at).above)
-            self.chains_found[identity] = tuple(found) if at == TOP else ()
+            self.chains_found[identity] = found if at == TOP else {}
         return self.chains_found[identity]
 
     def holder_of(self, identity, word):
@@ -51,14 +52,16 @@ class Facts:
         return self.keys_found[identity]
 
     def steps_of(self, identity, word):
-        """Return the reached instructions of a right method with their places and rows, none of a wrong one."""
-        method = self.text_of(identity).method(word)
-        table = find_least_table(identity[1], method)
-        if first_reason(method, table) is not None:
-            return []
-        loader, name = identity
-        return [((loader, name, word, index), method.code[index], row)
-                for index, row in enumerate(table) if row is not None]
+        """Return the reached instructions of a right method with their rows, by place; none of a wrong one."""
+        if (identity, word) not in self.steps_found:
+            method = self.text_of(identity).method(word)
+            table = find_least_table(identity[1], method)
+            wrong = first_reason(method, table) is not None
+            rows = [] if wrong else [(index, row) for index, row in enumerate(table) if row is not None]
+            loader, name = identity
+            self.steps_found[(identity, word)] = {(loader, name, word, index): (method.code[index], row)
+                                                  for index, row in rows}
+        return self.steps_found[(identity, word)]
 
 
 class Call:
@@ -67,19 +70,23 @@ class Call:
     def __init__(self, facts, place, step, row):
         self.place = place
         self.step = step
-        wanted = facts.tables.identity(place[0], step[3])
-        # No class has top as what a call can ask of it.
-        self.key = (step[0], wanted)
+        # No class has top, or nothing, as what a call can ask of it.
+        self.key = (step[0], facts.tables.identity(place[0], step[3]))
         held = row[step[2]]
         self.takes_all = "top" in held
-        names = [kind for kind in held if is_name(kind)]
-        self.takes = {facts.tables.identity(place[0], name): True for name in names}
+        names = [facts.tables.identity(place[0], kind) for kind in held if is_name(kind)]
+        self.takes = [identity for identity in names if identity is not None]
+
+    def shape(self):
+        """Return all that the entries of this call depend on, but for its place."""
+        return (self.key, self.takes_all, tuple(self.takes), self.step[4], self.step[5], self.step[6])
 
     def entry(self, facts, identity):
         """Return the entry that this call adds with an object of a class, or None."""
         if self.key[1] is None or self.key not in facts.keys_of(identity):
             return None
-        if not self.takes_all and not any([at in self.takes for at in facts.chain_of(identity)]):
+        chain = facts.chain_of(identity)
+        if not self.takes_all and not any([at in chain for at in self.takes]):
             return None
         step = self.step
         holder = facts.holder_of(identity, step[4])
@@ -104,64 +111,63 @@ def first_entries(facts, loader, name, word):
 
 
 def entry_above(facts, identity):
-    """Return the entries that a class adds for the class above it, as a list."""
+    """Return the entry that a class adds for the class above it, or None."""
     above = facts.tables.identity(identity[0], facts.text_of(identity).above)
-    if above is None or above == TOP:
-        return []
-    return [("class", above, ("above", identity))]
+    return None if above is None or above == TOP else ("class", above, ("above", identity))
 
 
 def entry_new(facts, place, step):
-    """Return the entries that an instruction new adds, as a list."""
+    """Return the entry that an instruction new adds, or None."""
     identity = facts.tables.identity(place[0], step[2])
-    if identity is None or identity == TOP:
-        return []
-    return [("class", identity, ("new", place))]
+    return None if identity is None or identity == TOP else ("class", identity, ("new", place))
 
 
 class Search:
-    """The classes and calls whose turn has been, and those of them that can meet."""
+    """The classes and calls whose turn has been, and those of them that can meet.
+
+    Of calls that could add the same classes and methods only the first one is kept.
+    """
 
     def __init__(self, facts):
         self.facts = facts
         self.calls_by_key = {}
         self.classes_by_key = {}
-        self.many = 0
+        self.shapes = {}
 
     def turn_of_class(self, identity):
-        """Return the entries that a class adds in its turn."""
+        """Return the entries that a class adds in its turn, and None for some that it does not."""
         facts = self.facts
-        found = entry_above(facts, identity)
         calls = {}
         for key in facts.keys_of(identity):
             self.classes_by_key.setdefault(key, []).append(identity)
             for number, call in self.calls_by_key.get(key, []):
                 calls[number] = call
-        for number in sorted(list(calls)):
-            found.append(calls[number].entry(facts, identity))
-        return [entry for entry in found if entry is not None]
+        found = [calls[number].entry(facts, identity) for number in sorted(list(calls))]
+        return [entry_above(facts, identity)] + found
 
     def turn_of_method(self, identity, word):
-        """Return the entries that a method adds in its turn."""
+        """Return the entries that a method adds in its turn, and None for some that it does not."""
         found = []
-        for place, step, row in self.facts.steps_of(identity, word):
+        for place, (step, row) in self.facts.steps_of(identity, word).items():
             if step[0] == "new":
-                found.extend(entry_new(self.facts, place, step))
+                found.append(entry_new(self.facts, place, step))
             elif step[0] in ("call", "ask"):
                 found.extend(self.meet(Call(self.facts, place, step, row)))
-        return [entry for entry in found if entry is not None]
+        return found
 
     def meet(self, call):
         """Return the entries that a call adds with the classes whose turn has been, and let later ones meet it."""
-        self.many += 1
-        self.calls_by_key.setdefault(call.key, []).append((self.many, call))
+        shape = call.shape()
+        if shape in self.shapes:
+            return []
+        self.shapes[shape] = True
+        self.calls_by_key.setdefault(call.key, []).append((len(self.shapes), call))
         return [call.entry(self.facts, identity) for identity in self.classes_by_key.get(call.key, [])]
 
     def turn(self, entry):
-        """Return the entries that an entry adds in its turn."""
-        if entry[0] == "class":
-            return self.turn_of_class(entry[1])
-        return self.turn_of_method(entry[1], entry[2])
+        """Return the entries that an entry adds in its turn; of those of the same class or method perhaps only one."""
+        found = self.turn_of_class(entry[1]) if entry[0] == "class" else self.turn_of_method(entry[1], entry[2])
+        return [added for added in found if added is not None]
 
 
 def key_of(entry):
@@ -198,7 +204,31 @@ def is_entry(value):
     """Tell whether any object has the form of an entry."""
     if not is_plain(value, ENTRY_DEPTH) or type(value) != tuple or len(value) == 0:
         return False
+    if type(value[-1]) != tuple or len(value[-1]) == 0:
+        return False
     return (value[0] == "class" and len(value) == 3) or (value[0] == "method" and len(value) == 4)
+
+
+def step_at(facts, ahead, place):
+    """Return the instruction and row at a plain value if that is a place of a method among these, or None."""
+    if type(place) != tuple or len(place) != 4 or ("method", place[:2], place[2]) not in ahead:
+        return None
+    return facts.steps_of(place[:2], place[2]).get(place)
+
+
+def is_added(facts, ahead, entry):
+    """Tell whether an entry among those of these classes and methods adds this one."""
+    reason = entry[-1]
+    if reason[0] == "above" and len(reason) == 2:
+        return ("class", reason[1]) in ahead and entry_above(facts, reason[1]) == entry
+    if reason[0] == "new" and len(reason) == 2:
+        found = step_at(facts, ahead, reason[1])
+        return found is not None and found[0][0] == "new" and entry_new(facts, reason[1], found[0]) == entry
+    if reason[0] == "call" and len(reason) == 3 and ("class", reason[2]) in ahead:
+        found = step_at(facts, ahead, reason[1])
+        if found is not None and found[0][0] in ("call", "ask"):
+            return Call(facts, reason[1], found[0], found[1]).entry(facts, reason[2]) == entry
+    return False
 
 
 def is_reach(tables, loader, name, method, value):
@@ -207,15 +237,12 @@ def is_reach(tables, loader, name, method, value):
     if type(value) != tuple or not all([is_entry(entry) for entry in value]):
         return False
     facts = Facts(tables)
-    search = Search(facts)
-    keys = {key_of(entry): True for entry in value}
-    if len(keys) != len(value):
-        return False
-    # By each entry that can stand next: all that the entries ahead of it would add.
-    allowed = {entry: True for entry in first_entries(facts, loader, name, method)}
+    first = first_entries(facts, loader, name, method)
+    ahead = {}
     for entry in value:
-        if entry not in allowed:
+        if key_of(entry) in ahead or not (entry in first or is_added(facts, ahead, entry)):
             return False
-        for added in search.turn(entry):
-            allowed[added] = True
-    return all([key_of(entry) in keys for entry in allowed])
+        ahead[key_of(entry)] = True
+    search = Search(facts)
+    wanted = first + [added for entry in value for added in search.turn(entry)]
+    return all([key_of(entry) in ahead for entry in wanted])
