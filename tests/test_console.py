@@ -141,7 +141,7 @@ class TestErrors(unittest.TestCase):
                 "ask shop item", "ask shop item base base", "ask shop Item base", "ask Shop item base", "ask shop item -",
                 "release", "release shop shop", "release Shop", "release -", "load shop", "load shop item item", "load shop 0",
                 "load Shop item", "unload shop", "unload ", "loaded x", "loaded ", " loaded", "why shop", "why shop item item",
-                "why shop Item", "why -", "open x", "open ", "run shop desk m - 5", "run shop desk m - 5 - keep more",
+                "why shop Item", "why Shop item", "load Shop item", "why -", "open x", "open ", "run shop desk m - 5", "run shop desk m - 5 - keep more",
                 "run Shop desk m - 5 -", "run shop Desk m - 5 -", "run shop desk M - 5 -", "run shop desk m 2 5 -",
                 "run shop desk m  5 -", "run shop desk m 0,1 5 -", "run shop desk m 0- 5 -", "run shop desk m -- 5 -",
                 "run shop desk m x 5 -", "run shop desk m - 05 -", "run shop desk m - 00 -", "run shop desk m - -5 -",

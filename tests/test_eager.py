@@ -76,8 +76,8 @@ class TestEagerMachine(unittest.TestCase):
         self.assertEqual(machine("loader shop", "class shop desk top;method m 2 top;new 1 pen;return 1;end",
                                  "class shop pen top;field f none").run("shop", "desk", "m").ending, ("returned", "pen@shop"))
 
-    def test_an_instruction_that_fails(self):
-        # What an array makes is a name of the text as well: it is loaded at the beginning.
+    def test_names_in_code_that_is_not_performed(self):
+        # All names of the text are loaded at the beginning, also those that nothing makes.
         lines = ("loader base", "class base pen top;field f ink", "loader shop base",
                  "class shop desk top;method m 2 top;array 1 top 1;ifis 0 desk 3;return 1;return 0;end")
         one = eager(*lines)
@@ -119,6 +119,15 @@ class TestCompared(unittest.TestCase):
         self.assertEqual(found.late.ending, ("returned", "pen@shop"))
         self.assertEqual(shown(one), before)
         self.assertEqual(compared(one, "shop", "desk", "pick", limit=0).late.ending, ("stopped",))
+
+    def test_asks(self):
+        one = machine("loader base", "class base pen top", "loader lib", "class lib pen top", "loader shop lib", "ask shop pen base",
+                      "class shop desk top;method m 2 top;new 1 pen;return 1;end")
+        self.assertEqual(compared(one, "shop", "desk", "m").late.ending, ("returned", "pen@base"))
+
+    def test_the_limit_when_none_is_given(self):
+        one = machine("loader shop", "class shop desk top;method m 1 top;jump 0;end")
+        self.assertEqual(compared(one, "shop", "desk", "m").late.steps, 1000)
 
     def test_not_agreeing(self):
         one = machine("loader shop", "class shop desk top;method m 2 top;choose 3;new 1 none;return 1;return 0;end")

@@ -7,7 +7,7 @@ from lateclasses.errors import InvalidJournal
 from lateclasses.judge import first_wrong
 from lateclasses.machine import Machine
 from tests import slow_judge
-from tests.builders import eager, machine
+from tests.builders import eager, machine, text
 from tests.samples import AlwaysEqual, no_texts
 from tests.test_random_machine import do, played
 
@@ -233,6 +233,94 @@ class TestEntries(unittest.TestCase):
         self.wrong(*one.journal(), (bound[0], got))
         self.wrong(*one.journal(), (bound[1], asked))
         self.wrong(*one.journal(), bound)
+
+    def test_fields_and_methods_that_do_not_fit(self):
+        book = ("bind", "shop", "book", ("shop", "book")), ("load", ("shop", "book"), ("asked",))
+        for item, text in (("field f item", "field f item"), ("method m 1 top\nreturn 0\nend", "method m 1 item\nreturn 0\nend"),
+                           ("method m 1 top\nreturn 0\nend", "method m 2 top top\nreturn 0\nend")):
+            more = BASE[0], (("class", "shop", "class item top\n" + item),), (("class", "shop", "class book item\n" + text),)
+            self.wrong(*more, (BIND, LOAD) + book)
+        more = *BASE, (("class", "shop", "class book item\nmark sold"),), (("class", "shop", "class sold top"),)
+        self.wrong(*more, (BIND, LOAD) + book)
+        self.right(*more, (BIND, LOAD, ("bind", "shop", "sold", ("shop", "sold"))) + book)
+        self.wrong(*more, book)
+
+    def overriding(self):
+        one = machine("loader base", "class base item top;method m 2 pen;null 1;return 1;end", "loader shop base",
+                      "class shop book item;method m 2 pen;null 1;return 1;end", "class shop bill item")
+        one.load("shop", "item")
+        return one
+
+    def test_equations_of_overrides(self):
+        one = self.overriding()
+        begun = one.journal()
+        one.load("shop", "book")
+        bind, equation, load = one.journal()[-1][:1], one.journal()[-1][1], one.journal()[-1][-1]
+        self.assertEqual(equation, ("equation", "pen", "shop", "base", ("shop", "book", "m", None)))
+        bind = tuple(entry for entry in one.journal()[-1] if entry[0] == "bind") or bind
+        self.right(*begun, bind + (equation, load))
+        self.right(*begun, bind + (load, equation))
+        # Left out, or noted without the class.
+        self.wrong(*begun, bind + (load,))
+        self.wrong(*begun, (equation,))
+        self.wrong(*begun, bind + (equation,))
+        self.wrong(*begun, (equation,), bind + (load,), index=len(begun))
+        for other in (("equation", "pen", "base", "shop", ("shop", "book", "m", None)),
+                      ("equation", "pen", "shop", "base", ("shop", "book", "m", 0)),
+                      ("equation", "pen", "shop", "base", ("shop", "bill", "m", None)),
+                      ("equation", "pen", "shop", "base", ("shop", "book", "n", None)),
+                      ("equation", "pen", "shop", "base", ("shop", "none", "m", None)),
+                      ("equation", "pen", "shop", "base", ("base", "item", "m", None)),
+                      ("equation", "item", "shop", "base", ("shop", "book", "m", None))):
+            self.wrong(*begun, bind + (other, load))
+        # The class above is loaded by an entry ahead of it.
+        fresh = begun[:-1]
+        self.assertEqual(begun[-1][0][0], "bind")
+        self.wrong(*fresh, (equation,) + begun[-1] + bind + (load,))
+        self.right(*fresh, begun[-1] + (equation,) + bind + (load,))
+
+    def test_equations_of_nobody(self):
+        one = self.overriding()
+        place = ("shop", "book", "m", None)
+        for name, loader, other, where in (("pen", "none", "base", place), ("pen", "shop", "none", place), (5, "shop", "base", place),
+                                           (None, "shop", "base", place), ("pen", None, "base", place), ("pen", "shop", "base", None),
+                                           ("pen", "shop", "base", ()), ("pen", "shop", "base", 5), ("pen", "shop", "base", "shop"),
+                                           ("pen", "shop", "base", (("shop",), "book", "m", None)),
+                                           ("pen", "shop", "base", ("shop", "book", "m", "0"))):
+            self.wrong(*one.journal(), (("equation", name, loader, other, where),))
+
+    def test_joined_loaders_are_bound_together(self):
+        one = self.overriding()
+        one.load("shop", "book")
+        one.add_class("base", text("pen top"))
+        begun = one.journal()
+        one.bind("shop", "pen")
+        both = one.journal()[-1]
+        self.assertEqual([entry[1] for entry in both], ["shop", "base"])
+        self.right(*begun, both)
+        self.right(*begun, both[::-1])
+        self.wrong(*begun, both[:1])
+        self.wrong(*begun, both[1:])
+        self.wrong(*begun, both[:1], both[1:], index=len(begun))
+
+    def test_eager_for_the_sake_of_what_waits(self):
+        more = BASE[0], (("class", "shop", "class item top\nfield f pen"),), (("class", "shop", "class book item"),), (
+            ("class", "shop", "class pen top"),)
+        pen, book = ("bind", "shop", "pen", ("shop", "pen")), ("bind", "shop", "book", ("shop", "book"))
+        self.right(*more, (BIND, pen, book, ("load", ("shop", "item"), ("above", ("shop", "book"))),
+                           ("load", ("shop", "pen"), ("eager", ("shop", "item"))), ("load", ("shop", "book"), ("asked",))))
+
+    def test_places_of_nobody(self):
+        for place in (("shop", "none", "m", 0), ("none", "item", "m", 0), ("shop", "item", "m", 0), (), None, 5, "shop", ("shop",),
+                      (("shop",), "item", "m", 0)):
+            self.wrong(*BASE, (BIND, ("load", ("shop", "item"), ("new", place))))
+
+    def test_objects_that_claim_to_be_equal(self):
+        for entry in (("bind", "shop", "item", AlwaysEqual()), ("bind", "shop", AlwaysEqual(), ("shop", "item")),
+                      ("load", AlwaysEqual(), ("asked",)), ("load", ("shop", "item"), AlwaysEqual()), ("release", AlwaysEqual()),
+                      ("load", ("shop", "item"), (AlwaysEqual(),)), ("unload", AlwaysEqual(), ())):
+            self.assertEqual(first_wrong([*BASE, (BIND, entry)]), 2)
+            self.assertEqual(first_wrong([*BASE, (entry,)]), 2)
 
     def test_an_assumption_that_does_not_hold(self):
         one = machine("loader shop", "class shop item top", "class shop pen top",

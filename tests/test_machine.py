@@ -321,6 +321,19 @@ class TestTrials(unittest.TestCase):
             trial.accept()
         self.assertEqual((one.released, trial.machine.released), ((), ("shop",)))
 
+    def test_another_block(self):
+        """What was accepted counts for one block."""
+        one = made()
+        with one.trial() as trial:
+            trial.machine.release("shop")
+            trial.accept()
+        with trial:
+            pass
+        self.assertEqual((one.released, trial.machine.released), (("shop",), ()))
+        with trial:
+            trial.accept()
+        self.assertEqual((one.released, trial.machine.released), ((), ("shop",)))
+
     def test_what_the_copy_is_called_afterwards(self):
         """The machine and the copy stay independent when they have exchanged what they have."""
         one = made()

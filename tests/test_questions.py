@@ -84,7 +84,8 @@ class TestWho(unittest.TestCase):
 
     def test_others(self):
         for given in (("shop", "item", "book"), ("none", "book", "item"), ("shop", "book", "top"), (None, None, None),
-                      ([], {}, ()), ("shop", AlwaysEqual(), "item"), ("shop", "book", ["item"])):
+                      ([], {}, ()), ("shop", AlwaysEqual(), "item"), ([], "book", "item"), ("shop", {}, "item"),
+                      ("shop", "book", []), ("shop", "book", ["item"])):
             self.assertEqual(who(self.one, *given), [])
 
 

@@ -259,6 +259,8 @@ class TestInstructions(unittest.TestCase):
         self.ends(code, ("returned", "desk@shop"), limit=3, choices=[False], steps=3)
         self.ends(code, ("stopped",), limit=2, choices=[False], steps=2)
         self.ends("jump 0", ("stopped",), limit=2000, steps=2000)
+        one = machine("loader shop", "class shop desk top;method m 1 top;jump 0;end")
+        self.assertEqual((one.run("shop", "desk", "m").steps, len(list(one.watch("shop", "desk", "m")))), (1000, 1000))
 
     def test_failures_and_the_limit(self):
         self.ends("null 1;get 2 1 item held item;return 2", failed("Null", 1), limit=2, steps=2)
