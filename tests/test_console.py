@@ -137,7 +137,7 @@ class TestErrors(unittest.TestCase):
         for line in no_texts() + [
                 "", " ", "none", "loader", "loader ", "loader Base", "loader a b c", "loader  new", " loader new", "loader new ",
                 "loader new none ", "loader new -", "loader\tnew", "loader new\n", "\nloader new", "loader new\nloader other",
-                "Loader new", "loader abcdefghi", "class", "class shop", "class Shop class pen top", "class  shop class pen top",
+                "Loader new", "loader abcdefghi", "class", "class shop", "class shop class pen top\nmark item", "class shop class pen top\n", "class Shop class pen top", "class  shop class pen top",
                 "ask shop item", "ask shop item base base", "ask shop Item base", "ask Shop item base", "ask shop item -",
                 "release", "release shop shop", "release Shop", "release -", "load shop", "load shop item item", "load shop 0",
                 "load Shop item", "unload shop", "unload ", "loaded x", "loaded ", " loaded", "why shop", "why shop item item",

@@ -117,6 +117,7 @@ class TestEntries(unittest.TestCase):
         self.right(*more, (BIND, book, above, load, pen, eagerly))
         self.right(*more, (BIND, book, above, load), (pen, eagerly))
         self.wrong(*more, (BIND, book, above, load), (pen, ("load", ("shop", "pen"), ("eager", ("shop", "item")))))
+        self.wrong(*more, (BIND, book, above, load), (pen, ("load", ("shop", "pen"), ("walked", ("shop", "book")))))
         self.wrong(*more, (pen, eagerly))
         # item is loaded above book, and so not eagerly for its sake.
         self.wrong(*more, (BIND, book, ("load", ("shop", "item"), ("eager", ("shop", "book"))), load))
@@ -153,12 +154,17 @@ class TestEntries(unittest.TestCase):
         self.right(*more, check, (BIND, ("load", ("shop", "item"), ("new", ("shop", "desk", "m", 1)))))
         self.right(*more, (check[0], BIND, ("load", ("shop", "item"), ("new", ("shop", "desk", "m", 1)))))
         self.wrong(*more, (BIND, ("load", ("shop", "item"), ("new", ("shop", "desk", "m", 1)))))
-        for index in (0, 2, 4, 9, -5, None, True, "1"):
+        for index in (0, 2, 4, 5, 6, 7, 9, -1, -2, -5, None, True, "1", (1,)):
             self.wrong(*more, check, (BIND, ("load", ("shop", "item"), ("new", ("shop", "desk", "m", index)))))
         self.wrong(*more, check, check)
         self.wrong(*more, (("check", ("shop", "desk"), "n", table),))
         self.wrong(*more, (("check", ("shop", "item"), "m", table),))
         self.wrong(*more, (("check", ("shop", "desk"), "m", table[:-1]),))
+        first = "class rack top\nmethod m 2 top\nnew 1 item\nreturn 1\nend"
+        rack = ("bind", "shop", "rack", ("shop", "rack")), ("load", ("shop", "rack"), ("run",)), (
+            "check", ("shop", "rack"), "m", ((("rack",), None), (("rack",), ("item",))))
+        self.right(*BASE, (("class", "shop", first),), rack,
+                   (BIND, ("load", ("shop", "item"), ("new", ("shop", "rack", "m", 0)))))
         # Another right table reaches more; the reason goes by the least one.
         wide = table[:4] + ((("desk",), None), table[5])
         self.right(*more, (("check", ("shop", "desk"), "m", wide),))
@@ -228,6 +234,10 @@ class TestEntries(unittest.TestCase):
         self.wrong(*one.journal(), (asked,))
         self.wrong(*one.journal(), (got,))
         bound = ("bind", "shop", "sold", ("base", "sold")), ("bind", "shop", "box", ("base", "box"))
+        far = (("loader", "far", None),)
+        self.right(*one.journal(), far, (bound[0], asked))
+        self.wrong(*one.journal(), far, (bound[0], asked, ("equation", "item", "far", "base", asked[4])))
+        self.wrong(*one.journal(), far, (bound[0], asked, ("equation", "item", "shop", "far", asked[4])))
         self.right(*one.journal(), (bound[0], asked))
         self.right(*one.journal(), (bound[1], got))
         self.wrong(*one.journal(), (bound[0], got))
@@ -260,6 +270,14 @@ class TestEntries(unittest.TestCase):
         bind = tuple(entry for entry in one.journal()[-1] if entry[0] == "bind") or bind
         self.right(*begun, bind + (equation, load))
         self.right(*begun, bind + (load, equation))
+        # More than is needed.
+        begun = begun[:1] + [(("loader", "lib", None),)] + begun[1:]
+        self.right(*begun, bind + (equation, load))
+        for other in (("equation", "item", "shop", "base", ("shop", "book", "m", None)),
+                      ("equation", "pen", "shop", "lib", ("shop", "book", "m", None)),
+                      ("equation", "pen", "lib", "base", ("shop", "book", "m", None))):
+            self.wrong(*begun, bind + (equation, other, load))
+            self.wrong(*begun, bind + (other, equation, load))
         # Left out, or noted without the class.
         self.wrong(*begun, bind + (load,))
         self.wrong(*begun, (equation,))

@@ -4,6 +4,7 @@ import unittest
 
 from lateclasses.classes import ClassText
 from tests.builders import failure, machine
+from tests.samples import AlwaysEqual
 from tests.test_random_machine import shown
 
 
@@ -298,7 +299,9 @@ class TestDown(unittest.TestCase):
 class TestSeen(unittest.TestCase):
     def setUp(self):
         self.one = machine("loader base", "loader shop base", "class base item top;mark sold", "class base sold top",
-                           "class shop book item;mark sold;mark new", "class shop new top", "class shop pen item")
+                           "class shop book item;mark sold;mark new", "class shop new top", "class shop pen item",
+                           "class shop ink item")
+        self.one.load("shop", "ink")
         self.one.load("shop", "book")
         self.one.load("shop", "pen")
 
@@ -312,7 +315,8 @@ class TestSeen(unittest.TestCase):
     def test_in(self):
         seen = self.one[("shop", "book")]
         self.assertTrue(("base", "item") in seen and ("", "top") in seen and ("shop", "book") in seen)
-        for other in (("shop", "pen"), None, "item", ["base", "item"], ("base", "item", 0), (), ("base", []), 0, seen):
+        for other in (("shop", "pen"), None, "item", ["base", "item"], ("base", "item", 0), (), ("base", []), 0, seen,
+                      AlwaysEqual(), (AlwaysEqual(), "item"), ("base", AlwaysEqual())):
             self.assertIs(other in seen, False)
 
     def test_and(self):
@@ -331,6 +335,8 @@ class TestSeen(unittest.TestCase):
         self.assertTrue(self.one[("shop", "book")] == self.one[("shop", "book")])
         self.assertTrue(self.one[("shop", "book")] == self.one.copy()[("shop", "book")])
         self.assertFalse(self.one[("shop", "book")] == self.one[("shop", "pen")])
+        # Without marks, both of them.
+        self.assertFalse(self.one[("shop", "ink")] == self.one[("shop", "pen")])
         self.assertFalse(self.one[("shop", "book")] == self.one[("shop", "book")].chain)
         self.assertTrue(self.one[("shop", "book")] != None)
 
@@ -344,7 +350,7 @@ class TestSeen(unittest.TestCase):
 
     def test_not_loaded(self):
         for other in (("", "top"), ("shop", "new"), None, "book", ["shop", "book"], (), ("shop",), ("shop", "book", 0),
-                      (["shop"], "book"), 0, {}):
+                      (["shop"], "book"), ("shop", ["book"]), ("shop", {}), 0, {}):
             self.assertFalse(other in self.one)
             for call in (self.one.__getitem__, self.one.reason, lambda given: self.one.check(given, "m")):
                 with self.assertRaises(Exception) as caught:

@@ -88,6 +88,20 @@ class TestReach(unittest.TestCase):
         for code in ("new 2 pen;null 1;call 3 1 pen n - pen -;return 3", "new 2 pen;array 1 pen 1;call 3 1 top n - pen -;return 3"):
             self.assertEqual(len(found_by(desk(code), self.PEN, self.INK)), 3)
 
+    def test_calls_that_differ_in_one_thing(self):
+        """Of two calls of the same object each adds what it can."""
+        pen = "class shop pen top;method n 1 pen;return 0;end;method k 1 pen;return 0;end;method p 2 pen ink;return 0;end"
+        for code, words in (("call 3 1 pen n - pen -;null 2;call 3 1 pen k - pen -", ["m", "n", "k"]),
+                            ("call 3 1 pen n pen pen 1;call 3 1 pen n - pen -", ["m", "n"]),
+                            ("call 3 1 pen n - ink -;call 3 1 pen n - pen -", ["m", "n"]),
+                            ("null 2;call 3 1 pen p pen pen 2;call 3 1 pen p ink pen 2", ["m", "p"]),
+                            ("call 3 0 pen n - pen -;call 3 1 pen n - pen -", ["m", "n"]),
+                            ("null 2;call 3 2 pen n - pen -;call 3 1 pen n - pen -", ["m", "n"]),
+                            ("call 3 1 desk n - pen -;call 3 1 pen n - pen -", ["m", "n"]),
+                            ("ask 3 1 pen n - pen -;call 3 1 pen n - pen -", ["m", "n"])):
+            found = found_by(desk(f"new 1 pen;{code};return 3"), pen)
+            self.assertEqual([entry[2] for entry in found if entry[0] == "method"], words, code)
+
     def test_top_in_the_set(self):
         lines = ("class shop sold top", "class shop pen top;mark sold;method n 1 top;return 0;end",
                  "class shop ink top;method n 1 top;return 0;end")
@@ -205,6 +219,38 @@ class TestCertificates(unittest.TestCase):
                     ("class", shop("pen"), ("new", list(self.found[2][2][1]))), self.found[2] + (None,), ("klass",) + self.found[2][1:],
                     ("class", AlwaysEqual(), self.found[2][2]), ("class", shop("pen"), AlwaysEqual()), (AlwaysEqual(),) + self.found[2][1:]):
             self.assertFalse(self.is_one(self.found[:2] + (bad,) + self.found[3:]))
+
+    def test_reasons_of_nobody(self):
+        pen, place = shop("pen"), ("shop", "desk", "m", 0)
+        for reason in ((), None, "run", 5, ("run", None), ("new",), ("new", None), ("new", ()), ("new", ("shop", "desk")),
+                       ("new", ("shop", "desk", "m")), ("new", place + (0,)), ("new", place, None), ("new", place[:3] + (1,)),
+                       ("new", place[:3] + (2,)), ("new", place[:3] + (3,)), ("new", place[:3] + (4,)), ("new", place[:3] + (-4,)),
+                       ("new", place[:3] + (None,)), ("new", ("shop", "desk", "n", 0)), ("new", ("shop", "none", "m", 0)),
+                       ("above",), ("above", None), ("above", pen), ("above", shop("ink"), None), ("above", ("", "top")),
+                       ("above", shop("desk")), ("call",), ("call", place), ("eager", shop("desk")), ("eager",),
+                       ("call", place[:3] + (2,), shop("ink"))):
+            bent = ("class", pen, reason)
+            self.assertFalse(self.is_one(self.found[:2] + (bent,) + self.found[3:]), reason)
+        call = self.found[4]
+        self.assertEqual((call[0], call[3][0]), ("method", "call"))
+        for reason in ((), ("call",), ("call", call[3][1]), call[3] + (None,), ("call", place, shop("ink")),
+                       ("call", place[:3] + (3,), shop("ink")), ("call", call[3][1], shop("desk")), ("call", call[3][1], pen),
+                       ("call", call[3][1], None), ("call", None, shop("ink")), ("call", (), shop("ink")), ("run",),
+                       ("above", shop("ink")), ("new", place)):
+            self.assertFalse(self.is_one(self.found[:4] + (call[:3] + (reason,),)), reason)
+        for bent in (("class",), ("class", shop("ink")), ("method", shop("ink"), call[3]), ("method", shop("ink"), "n"),
+                     ("class", shop("ink"), "n", call[3]), ("other", shop("ink"), "n", call[3]), call + (call[3],)):
+            self.assertFalse(self.is_one(self.found[:4] + (bent,)))
+
+    def test_an_object_that_is_none_by_the_tables(self):
+        # ink does not lie below pen, although the code needs that.
+        lines = (desk("new 2 ink;move 1 2;call 3 1 pen n - pen -;return 3"), TestReach.PEN, "class shop ink top;method n 1 pen;return 0;end")
+        given = tables(SHOP, *lines)
+        found = reach(given, "shop", "desk", "m")
+        self.assertEqual(len(found), 3)
+        more = ("method", shop("ink"), "n", ("call", ("shop", "desk", "m", 2), shop("ink")))
+        self.assertTrue(is_reach(given, "shop", "desk", "m", found))
+        self.assertFalse(is_reach(given, "shop", "desk", "m", found + (more,)))
 
     def test_nothing_to_reach(self):
         self.assertTrue(is_reach(self.given, "shop", "none", "m", ()))
