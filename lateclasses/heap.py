@@ -108,6 +108,5 @@ class Heap:
         twin = Heap()
         twin.latest = self.latest
         twin.kept = dict(self.kept)
-        for value, thing in self.things.items():
-            twin.things[value] = Thing(thing.home, thing.many, thing.slots)
+        twin.things = {value: Thing(thing.home, thing.many, thing.slots) for value, thing in self.things.items()}
         return twin

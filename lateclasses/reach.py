@@ -244,5 +244,7 @@ def is_reach(tables, loader, name, method, value):
             return False
         ahead[key_of(entry)] = True
     search = Search(facts)
-    wanted = first + [added for entry in value for added in search.turn(entry)]
+    wanted = list(first)
+    for entry in value:
+        wanted.extend(search.turn(entry))
     return all([key_of(entry) in ahead for entry in wanted])
