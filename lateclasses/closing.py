@@ -88,22 +88,22 @@ def decide(state, key):
     state.decide(key)
 
 
-def first_to_decide(state):
-    """Return the first assumption that can be decided and is not, or None."""
-    for key in state.open_assumptions():
-        if state.is_live(key[0], key[1]):
-            return key
-    return None
-
-
 def close(state):
     """Note what due uses want and decide what can be decided, until there is nothing left."""
     note_wanted(state)
-    key = first_to_decide(state)
-    while key is not None:
-        decide(state, key)
-        note_wanted(state)
-        key = first_to_decide(state)
+    waiting = state.open_assumptions()
+    index = 0
+    while index < len(waiting):
+        key = waiting[index]
+        index += 1
+        if state.is_live(key[0], key[1]):
+            many = len(state.change)
+            decide(state, key)
+            # Only what is bound can make a use due, or an assumption live that was passed over.
+            if len(state.change) > many:
+                note_wanted(state)
+                waiting = state.open_assumptions()
+                index = 0
 
 
 def types_of_item(kind, item):
