@@ -12,7 +12,7 @@ from lateclasses.loading import class_names, misfit, overrides
 from lateclasses.sets import is_right, least_table
 from lateclasses.state import METHOD, State, method_types
 from lateclasses.unloading import gone_equations, is_free
-from lateclasses.words import ENTRY_DEPTH, is_name, is_plain
+from lateclasses.words import ENTRY_DEPTH, are_texts, is_name, is_plain
 
 
 def is_journal(value):
@@ -22,19 +22,14 @@ def is_journal(value):
     return all([type(entry) == tuple for change in value for entry in change])
 
 
-def are_names(value, many):
-    """Tell whether a plain value is a tuple of so many texts."""
-    return type(value) == tuple and len(value) == many and all([type(item) == str for item in value])
-
-
 def has_text(state, identity):
     """Tell whether a plain value is an identity of which there is a text."""
-    return are_names(identity, 2) and identity in state.texts
+    return are_texts(identity, 2) and identity in state.texts
 
 
 def is_place(place):
     """Tell whether a plain value has the form of a place."""
-    if type(place) != tuple or len(place) != 4 or not are_names(place[:3], 3):
+    if type(place) != tuple or len(place) != 4 or not are_texts(place[:3], 3):
         return False
     return place[3] is None or type(place[3]) == int
 
@@ -162,7 +157,7 @@ def is_ground_new(state, identity, place):
 
 def is_ground_eager(state, identity, other):
     """Tell whether a loaded class names this one in its text, without being loaded because of this one."""
-    if not are_names(other, 2) or other not in state.reasons:
+    if not are_texts(other, 2) or other not in state.reasons:
         return False
     if identity not in [state.meaning(other[0], name) for name in names_of_text(state.text_of(other))]:
         return False
@@ -210,7 +205,7 @@ def accept_load(state, pending, identity, reason):
 
 def accept_check(state, pending, identity, word, table):
     """Take a check, with any right table."""
-    if not are_names(identity, 2) or identity not in state.reasons:
+    if not are_texts(identity, 2) or identity not in state.reasons:
         return False
     method = state.text_of(identity).method(word)
     if method is None or (identity, word) in state.checked or not is_right(identity[1], method, table):

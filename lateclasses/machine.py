@@ -8,19 +8,14 @@ from lateclasses.playing import Play
 from lateclasses.state import State
 from lateclasses.tables import require_loader, require_name
 from lateclasses.unloading import unload_from
-from lateclasses.words import is_name, is_number
+from lateclasses.words import are_texts, is_name, is_number
 
 MOST_LIMIT = 2000
 
 
-def is_identity(value):
-    """Tell whether any object is a tuple of two texts."""
-    return type(value) == tuple and len(value) == 2 and type(value[0]) == str and type(value[1]) == str
-
-
 def require_loaded(state, value):
     """Raise NotLoaded unless the object is a loaded identity other than that of top."""
-    if not is_identity(value) or value not in state.reasons:
+    if not are_texts(value, 2) or value not in state.reasons:
         raise NotLoaded(value)
 
 
@@ -67,7 +62,7 @@ class Seen:
         return self._marks
 
     def __contains__(self, x):
-        return is_identity(x) and x in self._chain
+        return are_texts(x, 2) and x in self._chain
 
     def __and__(self, other):
         if not isinstance(other, Seen):
@@ -295,7 +290,7 @@ class Machine:
 
     def table(self, identity, method):
         """Return the table of a checked method, None for any other objects."""
-        if not is_identity(identity) or not is_name(method):
+        if not are_texts(identity, 2) or not is_name(method):
             return None
         return self._state.checked.get((identity, method))
 
@@ -335,7 +330,7 @@ class Machine:
         self._state.done.append((name, given, result))
 
     def __contains__(self, x):
-        return is_identity(x) and x in self._state.reasons
+        return are_texts(x, 2) and x in self._state.reasons
 
     def __getitem__(self, at):
         state = self._state

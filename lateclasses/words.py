@@ -42,6 +42,11 @@ def is_series(value, most):
     return type(value) in (list, tuple) and len(value) <= most
 
 
+def are_texts(value, many):
+    """Tell whether any object is a tuple of so many texts, as identities and places are."""
+    return type(value) == tuple and len(value) == many and all([type(item) == str for item in value])
+
+
 def is_plain(value, depth):
     """Tell whether any object is made of None, texts, integers and tuples, not nested deeper than that."""
     if type(value) == tuple:
